@@ -1,0 +1,258 @@
+"""A keeper of all versions by entries: each field has one wherever, along the line, its value begins."""
+
+from asifcopied.changes import check_deed, done
+from asifcopied.checks import check_wide, is_between, is_held, is_number, is_pair
+from asifcopied.errors import BadEntries, BadField, BadMany, BadName, BadValues, NoEntry, NoRecord
+from asifcopied.heaps import seen_from_root
+from asifcopied.lines import check_parents, check_version, climbs_to, count_first, lined, places_of, stretch_in
+
+
+def up_to(entries, places, version):
+    """How many of the entries stand at the version or ahead of it."""
+    return count_first(len(entries), lambda at: places[entries[at][0]] <= places[version])
+
+
+def are_entries(value, places):
+    """Whether any value is entries, for versions that have these places in their line."""
+    if not isinstance(value, tuple):
+        return False
+    last = -1
+    for entry in value:
+        if not is_pair(entry) or not is_between(entry[0], 0, len(places) - 1) or not is_held(entry[1]):
+            return False
+        if places[entry[0]] <= last:
+            return False
+        last = places[entry[0]]
+    return True
+
+
+def descent(parents, made):
+    """The versions that come of made, as they stand in the line."""
+    line = lined(parents)
+    first, last = stretch_in(line, made)
+    return line[first:last + 1]
+
+
+def check_values(values, versions):
+    """Refuse what is no dict from just these versions to values."""
+    if not isinstance(values, dict) or not all([is_number(version) for version in values]):
+        raise BadValues("the keys are numbers of versions")
+    if sorted(values) != sorted(versions):
+        raise BadValues("the keys are just the versions that come of made")
+    if not all([is_held(values[version]) for version in versions]):
+        raise BadValues("a value is None, a number, or a pointer")
+
+
+def read_entries(parents, entries, version):
+    """What the entries tell at the version: the value of the nearest one."""
+    check_parents(parents)
+    places = places_of(lined(parents))
+    if not are_entries(entries, places):
+        raise BadEntries("entries are pairs of a version and a value, in the sequence of the line")
+    check_version(parents, version)
+    many = up_to(entries, places, version)
+    if many == 0:
+        raise NoEntry("all entries stand behind the version")
+    return entries[many - 1][1]
+
+
+def is_right(parents, made, values, entries):
+    """Whether any value is entries of versions that come of made, and they tell what is due at each."""
+    check_parents(parents)
+    check_version(parents, made)
+    versions = descent(parents, made)
+    check_values(values, versions)
+    if not are_entries(entries, places_of(lined(parents))):
+        return False
+    told = {version: value for version, value in entries}
+    if made not in told or not all([version in values for version in told]):
+        return False
+    value = told[made]
+    for version in versions:
+        value = told.get(version, value)
+        if value != values[version]:
+            return False
+    return True
+
+
+def least_entries(parents, made, values):
+    """The entries of made, and of each further version at which the value changes along the line."""
+    check_parents(parents)
+    check_version(parents, made)
+    versions = descent(parents, made)
+    check_values(values, versions)
+    entries = [(made, values[made])]
+    for version in versions:
+        if values[version] != entries[-1][1]:
+            entries.append((version, values[version]))
+    return tuple(entries)
+
+
+def dear_story(many):
+    """A story for one field in which each change takes two entries."""
+    if not is_between(many, 0, 900):
+        raise BadMany("many is a number from 0 to 900")
+    row = [(version, []) for version in range(many)]
+    return row + [(version, [("set", 0, 0, 1)]) for version in range(many)]
+
+
+class Fat:
+    """A keeper of all versions of a heap: the entries of each field are the least ones."""
+
+    def __init__(self, wide):
+        check_wide(wide)
+        self.wide = wide
+        self._parents = [None]
+        self._deeds = [[]]
+        self._counts = [1]
+        self._line = [0]
+        self._places = [0]
+        self._entries = {(0, 0): [[(0, None)] for _ in range(wide)]}
+
+    def _first(self, version):
+        """The number of the first record that the version's deed makes, if it makes any."""
+        parent = self._parents[version]
+        return 0 if parent is None else self._counts[parent]
+
+    def _names(self, version):
+        """The names of the version's records, by their numbers."""
+        way = []
+        while version is not None:
+            way.append(version)
+            version = self._parents[version]
+        names = []
+        for made in reversed(way):
+            names.extend([(made, which) for which in range(self._counts[made] - self._first(made))])
+        return names
+
+    def _held(self, name, field, version):
+        """What the field of the record with this name holds at a version at which it is there."""
+        entries = self._entries[name][field]
+        return entries[up_to(entries, self._places, version) - 1][1]
+
+    def _heap(self, version):
+        """The version's heap."""
+        fields = range(self.wide)
+        names = self._names(version)
+        return tuple([tuple([self._held(name, field, version) for field in fields]) for name in names])
+
+    def _check_record(self, version, record):
+        check_version(self._parents, version)
+        if not is_between(record, 0, self._counts[version] - 1):
+            raise NoRecord(record)
+
+    def _check_field(self, field):
+        if not is_between(field, 0, self.wide - 1):
+            raise BadField("a field is a number below wide")
+
+    def _check_name(self, name):
+        if not is_pair(name) or not is_between(name[0], 0, len(self._parents) - 1):
+            raise BadName("a name is a pair of a version and which of its records is meant")
+        if not is_between(name[1], 0, self._counts[name[0]] - self._first(name[0]) - 1):
+            raise BadName("the version has made no such record")
+
+    def _grow(self, parent, changes, count):
+        """A new version, right behind its parent in the line."""
+        fresh = len(self._parents)
+        self._parents.append(parent)
+        self._deeds.append(list(changes))
+        self._counts.append(count)
+        self._line.insert(self._places[parent] + 1, fresh)
+        self._places = places_of(self._line)
+        return fresh
+
+    def _write(self, entries, version, value, behind):
+        """Put an entry, and let behind, the version right behind, or None, read what it read until then."""
+        at = up_to(entries, self._places, version)
+        until = entries[at - 1][1]
+        entries.insert(at, (version, value))
+        if behind is None:
+            return
+        if at + 1 == len(entries) or entries[at + 1][0] != behind:
+            entries.insert(at + 1, (behind, until))
+        elif entries[at + 1][1] == value:
+            del entries[at + 1]
+
+    def _behind(self, version):
+        """The version right behind a version, None behind the last one."""
+        at = self._places[version] + 1
+        return self._line[at] if at < len(self._line) else None
+
+    def deed(self, version, changes):
+        """The number of a new version, which the changes make out of the version."""
+        check_version(self._parents, version)
+        count = check_deed(changes, self.wide, self._counts[version])
+        ahead = self._heap(version)
+        heap = done(ahead, changes)
+        names = self._names(version)
+        behind = self._behind(version)
+        # What stands right behind a version is a child of one on its way up: they share that one's records.
+        shared = 0 if behind is None else self._first(behind)
+        fresh = self._grow(version, changes, count)
+        for record, name in enumerate(names):
+            for field in range(self.wide):
+                if heap[record][field] != ahead[record][field]:
+                    reader = behind if record < shared else None
+                    self._write(self._entries[name][field], fresh, heap[record][field], reader)
+        for which in range(count - len(ahead)):
+            self._entries[(fresh, which)] = [[(fresh, value)] for value in heap[len(ahead) + which]]
+        return fresh
+
+    def heap(self, version):
+        """The version's heap."""
+        check_version(self._parents, version)
+        return self._heap(version)
+
+    def look(self, version):
+        """What is seen of the version's heap."""
+        check_version(self._parents, version)
+        return seen_from_root(self._heap(version))
+
+    def many(self, version):
+        """How many records the version has."""
+        check_version(self._parents, version)
+        return self._counts[version]
+
+    def read(self, version, record, field):
+        """What the field holds at the version."""
+        self._check_record(version, record)
+        self._check_field(field)
+        return self._held(self.name(version, record), field, version)
+
+    def parents(self):
+        """The tuple of the parents of all versions."""
+        return tuple(self._parents)
+
+    def line(self):
+        """The tuple of the versions in their line."""
+        return tuple(self._line)
+
+    def story(self):
+        """The story that made the versions."""
+        return [(self._parents[at], list(self._deeds[at])) for at in range(1, len(self._parents))]
+
+    def name(self, version, record):
+        """The name of the record that has this number at the version."""
+        self._check_record(version, record)
+        made = version
+        while record < self._first(made):
+            made = self._parents[made]
+        return (made, record - self._first(made))
+
+    def number(self, version, name):
+        """The number of the record with this name at the version, None if it is not there."""
+        check_version(self._parents, version)
+        self._check_name(name)
+        if not climbs_to(self._parents, version, name[0]):
+            return None
+        return self._first(name[0]) + name[1]
+
+    def entries(self, name, field):
+        """The entries of a field of the record with this name."""
+        self._check_name(name)
+        self._check_field(field)
+        return tuple(self._entries[name][field])
+
+    def count(self):
+        """How many entries all fields of all records have together."""
+        return sum([len(entries) for fields in self._entries.values() for entries in fields])
