@@ -4,9 +4,10 @@ from asifcopied.changes import check_deed, done
 from asifcopied.checks import check_wide, is_between, is_from, is_list
 from asifcopied.errors import BadCell, BadField, BadMost, BadRecord, BadRoom, BadVersion, BadWay
 from asifcopied.errors import NoWay, TooPointed
+from asifcopied.growth import Growth
 from asifcopied.heaps import count_pointed, is_lead
 from asifcopied.labels import MOST_BITS, Labels
-from asifcopied.lines import check_version, climbs_to, count_first
+from asifcopied.lines import climbs_to, count_first
 
 
 class Cell:
@@ -34,8 +35,7 @@ class Cells:
         self.wide = wide
         self.room = room
         self.most = most
-        self._parents = [None]
-        self._counts = [1]
+        self._growth = Growth()
         self._order = Labels(MOST_BITS)
         self._cells = [Cell((0, 0), 0, [None] * wide)]
         # The numbers of each record's cells, by the line.
@@ -57,28 +57,6 @@ class Cells:
             if count > self.most:
                 raise TooPointed(record)
 
-    def _first(self, version):
-        """The number of the first record that the version's deed makes, if it makes any."""
-        parent = self._parents[version]
-        return 0 if parent is None else self._counts[parent]
-
-    def _name(self, version, record):
-        """The name of the record that has this number at the version."""
-        while record < self._first(version):
-            version = self._parents[version]
-        return version, record
-
-    def _names(self, version):
-        """The names of the version's records, by their numbers."""
-        way = []
-        while version is not None:
-            way.append(version)
-            version = self._parents[version]
-        names = []
-        for made in reversed(way):
-            names.extend([(made, record) for record in range(self._first(made), self._counts[made])])
-        return names
-
     def _stands_by(self, one, other):
         """Whether one is other or stands ahead of it in the line."""
         return self._order.label(one) <= self._order.label(other)
@@ -92,10 +70,14 @@ class Cells:
         """The number of the record's cell that has the version, at which the record is there."""
         return self._rows[name][self._cells_by(name, version) - 1]
 
+    def _cell_of(self, record, version):
+        """The number of the cell that has the version, of the record with this number there."""
+        return self._cell_at((self._growth.maker(version, record), record), version)
+
     def _has(self, number, version):
         """Whether the cell has the version."""
         name = self._cells[number].name
-        return climbs_to(self._parents, version, name[0]) and self._cell_at(name, version) == number
+        return climbs_to(self._growth.elders, version, name[0]) and self._cell_at(name, version) == number
 
     def _entries_by(self, entries, version):
         """How many of a field's entries stand at the version or ahead of it."""
@@ -115,12 +97,12 @@ class Cells:
 
     def _leading(self, value, version):
         """The value, or a lead to the cell that has the version, for a plain value at a version."""
-        return ("in", self._cell_at(self._name(version, value[1]), version)) if is_lead(value) else value
+        return ("in", self._cell_of(value[1], version)) if is_lead(value) else value
 
     def _heap(self, version):
         """The plain heap of the version."""
         rows = []
-        for name in self._names(version):
+        for name in self._growth.made(version):
             cell = self._cell_at(name, version)
             held = [self._in_force(cell, field, version)[1] for field in range(self.wide)]
             rows.append(tuple([self._plain(value) for value in held]))
@@ -177,13 +159,6 @@ class Cells:
             if begun != behind:
                 self._put(number, field, behind, until)
         self._put(number, field, version, value)
-
-    def _grow(self, parent, count):
-        """A new version, right behind its parent in the line."""
-        self._order.put(parent)
-        self._parents.append(parent)
-        self._counts.append(count)
-        return len(self._parents) - 1
 
     def _things(self, number):
         """The versions of the cell's things, in no sequence."""
@@ -250,12 +225,13 @@ class Cells:
 
     def deed(self, version, changes):
         """The number of a new version, which the changes make out of the version."""
-        check_version(self._parents, version)
-        count = check_deed(changes, self.wide, self._counts[version])
+        self._growth.check(version)
+        count = check_deed(changes, self.wide, self._growth.counts[version])
         ahead = self._heap(version)
         heap = done(ahead, changes)
         self._check_pointed(heap)
-        fresh = self._grow(version, count)
+        self._order.put(version)
+        fresh = self._growth.grow(version, count)
         made = range(len(ahead), count)
         for record in made:
             self._begin((fresh, record), fresh, [None] * self.wide)
@@ -263,7 +239,7 @@ class Cells:
             held = [self._leading(value, fresh) for value in heap[record]]
             self._fill(self._cell_at((fresh, record), fresh), held)
         behind = self._order.behind(fresh)
-        for record, name in enumerate(self._names(version)):
+        for record, name in enumerate(self._growth.made(version)):
             cell = self._cell_at(name, fresh)
             for field in range(self.wide):
                 if heap[record][field] != ahead[record][field]:
@@ -274,7 +250,7 @@ class Cells:
     def split(self, cell, version):
         """Split a cell by hand."""
         self._check_cell(cell)
-        check_version(self._parents, version)
+        self._growth.check(version)
         if version == self._cells[cell].beginning or not self._has(cell, version):
             raise BadVersion("a cell is split at a version of its own, not its beginning")
         self._split(cell, version)
@@ -282,31 +258,30 @@ class Cells:
 
     def many(self, version):
         """How many records are there at the version."""
-        check_version(self._parents, version)
-        return self._counts[version]
+        self._growth.check(version)
+        return self._growth.counts[version]
 
     def read(self, version, record, field):
         """The plain value that the field holds at the version."""
-        check_version(self._parents, version)
-        if not is_between(record, 0, self._counts[version] - 1):
+        self._growth.check(version)
+        if not is_between(record, 0, self._growth.counts[version] - 1):
             raise BadRecord("a record is the number of one that is there")
         self._check_field(field)
-        cell = self._cell_at(self._name(version, record), version)
-        return self._plain(self._in_force(cell, field, version)[1])
+        return self._plain(self._in_force(self._cell_of(record, version), field, version)[1])
 
     def heap(self, version):
         """The plain heap of the version."""
-        check_version(self._parents, version)
+        self._growth.check(version)
         return self._heap(version)
 
     def root(self, version):
         """The number of the root's cell that has the version."""
-        check_version(self._parents, version)
+        self._growth.check(version)
         return self._cell_at((0, 0), version)
 
     def step(self, version, cell, field):
         """What is in force in a field of a cell that has the version."""
-        check_version(self._parents, version)
+        self._growth.check(version)
         self._check_cell(cell)
         if not self._has(cell, version):
             raise BadCell("the cell has not this version")
@@ -315,7 +290,7 @@ class Cells:
 
     def walk(self, version, way):
         """What the steps along the way come to."""
-        check_version(self._parents, version)
+        self._growth.check(version)
         if not is_list(way) or not all([is_between(field, 0, self.wide - 1) for field in way]):
             raise BadWay("a way is a list of fields")
         here = ("in", self.root(version))
@@ -345,7 +320,7 @@ class Cells:
 
     def parents(self):
         """The tuple of the parents of all versions."""
-        return tuple(self._parents)
+        return tuple(self._growth.elders)
 
     def cells(self):
         """The tuple, for each cell, of its name, its beginning, its values and its entries."""

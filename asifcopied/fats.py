@@ -3,6 +3,7 @@
 from asifcopied.changes import check_deed, done
 from asifcopied.checks import check_wide, is_between, is_held, is_number, is_pair
 from asifcopied.errors import BadEntries, BadField, BadMany, BadName, BadValues, NoEntry, NoRecord
+from asifcopied.growth import Growth
 from asifcopied.heaps import seen_from_root
 from asifcopied.lines import check_parents, check_version, climbs_to, count_first, lined, places_of, stretch_in
 
@@ -102,28 +103,19 @@ class Fat:
     def __init__(self, wide):
         check_wide(wide)
         self.wide = wide
-        self._parents = [None]
+        self._growth = Growth()
         self._deeds = [[]]
-        self._counts = [1]
         self._line = [0]
         self._places = [0]
         self._entries = {(0, 0): [[(0, None)] for _ in range(wide)]}
 
-    def _first(self, version):
-        """The number of the first record that the version's deed makes, if it makes any."""
-        parent = self._parents[version]
-        return 0 if parent is None else self._counts[parent]
-
     def _names(self, version):
         """The names of the version's records, by their numbers."""
-        way = []
-        while version is not None:
-            way.append(version)
-            version = self._parents[version]
-        names = []
-        for made in reversed(way):
-            names.extend([(made, which) for which in range(self._counts[made] - self._first(made))])
-        return names
+        return [self._named(maker, record) for maker, record in self._growth.made(version)]
+
+    def _named(self, maker, record):
+        """The name of a record, by the version that made it and its number."""
+        return maker, record - self._growth.first(maker)
 
     def _held(self, name, field, version):
         """What the field of the record with this name holds at a version at which it is there."""
@@ -137,8 +129,8 @@ class Fat:
         return tuple([tuple([self._held(name, field, version) for field in fields]) for name in names])
 
     def _check_record(self, version, record):
-        check_version(self._parents, version)
-        if not is_between(record, 0, self._counts[version] - 1):
+        self._growth.check(version)
+        if not is_between(record, 0, self._growth.counts[version] - 1):
             raise NoRecord(record)
 
     def _check_field(self, field):
@@ -146,17 +138,15 @@ class Fat:
             raise BadField("a field is a number below wide")
 
     def _check_name(self, name):
-        if not is_pair(name) or not is_between(name[0], 0, len(self._parents) - 1):
+        if not is_pair(name) or not is_between(name[0], 0, len(self._line) - 1):
             raise BadName("a name is a pair of a version and which of its records is meant")
-        if not is_between(name[1], 0, self._counts[name[0]] - self._first(name[0]) - 1):
+        if not is_between(name[1], 0, self._growth.counts[name[0]] - self._growth.first(name[0]) - 1):
             raise BadName("the version has made no such record")
 
     def _grow(self, parent, changes, count):
         """A new version, right behind its parent in the line."""
-        fresh = len(self._parents)
-        self._parents.append(parent)
+        fresh = self._growth.grow(parent, count)
         self._deeds.append(list(changes))
-        self._counts.append(count)
         self._line.insert(self._places[parent] + 1, fresh)
         self._places = places_of(self._line)
         return fresh
@@ -180,14 +170,14 @@ class Fat:
 
     def deed(self, version, changes):
         """The number of a new version, which the changes make out of the version."""
-        check_version(self._parents, version)
-        count = check_deed(changes, self.wide, self._counts[version])
+        self._growth.check(version)
+        count = check_deed(changes, self.wide, self._growth.counts[version])
         ahead = self._heap(version)
         heap = done(ahead, changes)
         names = self._names(version)
         behind = self._behind(version)
         # What stands right behind a version is a child of one on its way up: they share that one's records.
-        shared = 0 if behind is None else self._first(behind)
+        shared = 0 if behind is None else self._growth.first(behind)
         fresh = self._grow(version, changes, count)
         for record, name in enumerate(names):
             for field in range(self.wide):
@@ -200,18 +190,18 @@ class Fat:
 
     def heap(self, version):
         """The version's heap."""
-        check_version(self._parents, version)
+        self._growth.check(version)
         return self._heap(version)
 
     def look(self, version):
         """What is seen of the version's heap."""
-        check_version(self._parents, version)
+        self._growth.check(version)
         return seen_from_root(self._heap(version))
 
     def many(self, version):
         """How many records the version has."""
-        check_version(self._parents, version)
-        return self._counts[version]
+        self._growth.check(version)
+        return self._growth.counts[version]
 
     def read(self, version, record, field):
         """What the field holds at the version."""
@@ -221,7 +211,7 @@ class Fat:
 
     def parents(self):
         """The tuple of the parents of all versions."""
-        return tuple(self._parents)
+        return tuple(self._growth.elders)
 
     def line(self):
         """The tuple of the versions in their line."""
@@ -229,23 +219,21 @@ class Fat:
 
     def story(self):
         """The story that made the versions."""
-        return [(self._parents[at], list(self._deeds[at])) for at in range(1, len(self._parents))]
+        elders = self._growth.elders
+        return [(elders[version], list(self._deeds[version])) for version in range(1, len(elders))]
 
     def name(self, version, record):
         """The name of the record that has this number at the version."""
         self._check_record(version, record)
-        made = version
-        while record < self._first(made):
-            made = self._parents[made]
-        return (made, record - self._first(made))
+        return self._named(self._growth.maker(version, record), record)
 
     def number(self, version, name):
         """The number of the record with this name at the version, None if it is not there."""
-        check_version(self._parents, version)
+        self._growth.check(version)
         self._check_name(name)
-        if not climbs_to(self._parents, version, name[0]):
+        if not climbs_to(self._growth.elders, version, name[0]):
             return None
-        return self._first(name[0]) + name[1]
+        return self._growth.first(name[0]) + name[1]
 
     def entries(self, name, field):
         """The entries of a field of the record with this name."""

@@ -58,7 +58,7 @@ class TestAfter(unittest.TestCase):
     def test_other_forms(self):
         for change in [(), ("set",), ("set", 0, 0), ("set", 0, 0, 1, 1), ["set", 0, 0, 1], ("make",), ("make", None),
                        ("make", [1, 2]), ("make", (1,)), ("make", (1, 2, 3)), ["make", (1, 2)], ("make", 1, 2),
-                       ("drop", 0), ("drop", 0, 0, 1), ("SET", 0, 0, 1), "set", None, 0, True, {}, ("make", (1, 2), 3),
+                       ("drop", 0), ("drop", (1, 2)), (None, (1, 2)), ("drop", 0, 0, 1), ("SET", 0, 0, 1), "set", None, 0, True, {}, ("make", (1, 2), 3),
                        {"set": 1}, (0, 0, 0, "set"), ((1, 2), "make")]:
             self.refused(TWO, [change], 2, 0)
             self.refused(TWO, (("make", (1, 2)), change), 2, 1)

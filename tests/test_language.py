@@ -10,7 +10,7 @@ import unittest
 import asifcopied
 
 PACKAGE = pathlib.Path(asifcopied.__file__).parent
-MODULES = ["errors", "checks", "heaps", "changes", "lines", "fats", "labels", "moves", "cells"]
+MODULES = ["errors", "checks", "heaps", "changes", "lines", "growth", "fats", "labels", "moves", "cells"]
 INTERFACE = """
 checks: is_heap(value, wide)
 heaps: pointed(heap, wide), reached(heap, wide), seen(heap, wide), look_alike(one, other, wide)
