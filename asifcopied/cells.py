@@ -195,7 +195,6 @@ class Cells:
                 self._put(fresh, field, begun, value)
         self._lead_anew(number, fresh)
         self._splits += 1
-        self._grown[number] = True
 
     def _lead_anew(self, elder, fresh):
         """Let what leads to the elder cell at a version that is now the new cell's lead to the new one."""

@@ -62,7 +62,7 @@ class Labels:
         raise Full(len(self._labels))
 
     def _insert(self, item, label):
-        """The new item, right behind the item."""
+        """Let a new item stand right behind the item."""
         fresh = len(self._labels)
         behind = self._behind[item]
         self._labels.append(label)
@@ -71,7 +71,6 @@ class Labels:
         self._behind[item] = fresh
         if behind is not None:
             self._ahead[behind] = fresh
-        return fresh
 
     def _spread(self, low, many, level):
         """Spread the labels of so many items, from low on, over their stretch: how many have another one."""

@@ -219,6 +219,10 @@ class TestFat(unittest.TestCase):
         for name in names:
             self.assertEqual(len(fat.entries(name, 1)), 1)
         self.assertEqual([fat.number(1, name) for name in names], [0, 1, 2])
+        fat.deed(2, [("make", (1, 2)), ("make", (1, 2))])
+        for name in [(-1, 0), (-1, 1), (3, 2), (3, -1), (4, 0), (2, 0)]:
+            with self.assertRaises(BadName):
+                fat.entries(name, 0)
 
     def test_equal_to_no_other(self):
         fat = Fat(1)
@@ -245,6 +249,23 @@ class TestPrices(unittest.TestCase):
         story.clear()
         self.assertEqual(len(dear_story(many=3)), 6)
         self.assertEqual(dear_story(3)[0], (0, []))
+
+    def test_less_than_twice_what_must_be_paid(self):
+        """Changes to numbers that a field never had need one entry each, and take two at the most."""
+        for seed in range(30):
+            rng = random.Random(seed)
+            fat, made, changed = Fat(2), 1, 0
+            for number in range(25):
+                parent = rng.randrange(number + 1)
+                changes = [("make", (None, 0))] if rng.random() < 0.2 else []
+                fields = [(record, field) for record in range(fat.many(parent)) for field in range(2)]
+                told = rng.sample(fields, rng.randrange(len(fields) + 1))
+                changes += [("set", record, field, number + 1) for record, field in told]
+                fat.deed(parent, changes)
+                made += len(changes) - len(told)
+                changed += len(told)
+                self.assertLessEqual(2 * made + changed, fat.count())
+                self.assertLessEqual(fat.count(), 2 * made + 2 * changed)
 
     def test_bad_many(self):
         for bad in not_numbers(0, 900):

@@ -64,6 +64,11 @@ def writers(rng, many):
     crowd = []
     for at in range(many):
         crowd.append(rng.choice([0, at, crowd[-1] if crowd else 0, rng.randrange(at + 1)]))
+    for bits in (3, 5, 8):
+        # After some puts anywhere all the others come behind one item, now and then behind its neighbours.
+        some = [rng.randrange(at + 1) for at in range(min(many, bits))]
+        hot = rng.randrange(len(some) + 1)
+        rows.append(some + [rng.choice([hot] * 5 + [rng.randrange(at + 1)]) for at in range(len(some), many)])
     return rows + [crowd]
 
 
@@ -198,6 +203,8 @@ class TestLabels(unittest.TestCase):
         self.assertEqual((len(labels), len(other), labels.moved(), labels.behind(0)), (10, 11, 0, 9))
         self.assertEqual(labels.put(0), other.moved())
         self.assertTrue(other == labels)
+        self.assertEqual(labels.copy().moved(), 9)
+        self.assertTrue(labels.copy() == labels)
         labels.row().clear()
         self.assertEqual(labels.row(), other.row())
 

@@ -113,6 +113,20 @@ class TestStates(unittest.TestCase):
                     rows = [row for row in later if row is not None]
                 self.assertIs(free, tight_place(8, state, left) is None)
 
+    def test_no_keeper_does_better(self):
+        """So many puts need no move, whatever free labels are taken, exactly if no place is tight for them."""
+        @functools.lru_cache(None)
+        def goes(many, state, left):
+            if left == 0:
+                return True
+            laters = states(many, len(state) + 1)
+            return all(any(plain_price(state, place, later) == 0 and goes(many, later, left - 1) for later in laters)
+                       for place in range(len(state)))
+        for many in range(1, 9):
+            for state in states(many, 1) + states(many, 2):
+                for left in range(4):
+                    self.assertIs(goes(many, state, left), tight_place(many, state, left) is None)
+
     def test_errors(self):
         for bad in not_numbers(1):
             for call in [lambda: is_state(None, bad), lambda: price_between(bad, None, None, None),
@@ -251,6 +265,20 @@ class TestGame(unittest.TestCase):
             self.assertIs(is_keeping(5, 3, 9, (begin, {**table, beside: (0, ())})), beside == (True,) and False)
             self.assertIs(is_forcing(5, 3, 0, {**forcing(5, 3), beside: (0, None)}), False)
 
+    def test_bounds_from_nought_on(self):
+        table = {state: (0, 0) if size < 4 else (0, None) for size in range(1, 5) for state in states(5, size)}
+        self.assertIs(is_forcing(5, 4, 0, table), True)
+        for state in table:
+            self.assertIs(is_forcing(5, 4, 0, {**table, state: (-1, table[state][1])}), False)
+
+    def test_just_all_states(self):
+        for many, items in [(5, 3), (4, 2), (4, 1)]:
+            table = forcing(many, items)
+            for state in list(table):
+                for other in states(many, items + 1) + [(many,), (True,), "0", (0, 0)]:
+                    row = {key: table[key] for key in table if key != state}
+                    self.assertIs(is_forcing(many, items, 0, {**row, other: (0, None)}), False)
+
     def test_true_as_a_key(self):
         begin, table = keeping(3, 2)
         other = {tuple(label == 1 if label == 1 else label for label in state): row for state, row in table.items()}
@@ -271,6 +299,8 @@ class TestGame(unittest.TestCase):
         self.assertIs(is_keeping(4, 3, 99, [begin, table]), False)
         self.assertIs(is_keeping(4, 3, 99, (begin, table, 0)), False)
         self.assertIs(is_keeping(4, 3, 99, (begin, list(table.items()))), False)
+        for other in [[(1,)], ((1,),), None, 0, "", {}, {0: (0, ())}, [((1,), (0, ()))]]:
+            self.assertIs(is_keeping(2, 1, 0, ((1,), other)), False, other)
         self.assertIs(is_keeping(2, 1, 0, ((1,), {(1,): (0, ())})), True)
         self.assertIs(is_keeping(2, 1, 0, ((0,), {(1,): (0, ())})), False)
         self.assertIs(is_keeping(2, 1, 3, ((1,), {(1,): (4, ())})), False)
