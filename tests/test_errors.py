@@ -28,11 +28,14 @@ class TestErrors(unittest.TestCase):
         for path in package.glob("*.py"):
             module = importlib.import_module("asifcopied." + path.stem)
             for node in ast.parse(path.read_text()).body:
-                told = getattr(module, node.name) if isinstance(node, ast.ClassDef) else None
-                if told is None or not issubclass(told, BaseException):
+                if not isinstance(node, ast.ClassDef):
                     continue
-                self.assertEqual(path.stem, "errors")
-                self.assertIn(node.name, PLAIN + list(WITH) + ["CopyError"])
+                told = getattr(module, node.name)
+                if issubclass(told, BaseException):
+                    self.assertEqual(path.stem, "errors")
+                    self.assertIn(node.name, PLAIN + list(WITH) + ["CopyError"])
+                else:
+                    self.assertEqual(told.__bases__, (object,))
 
     def test_texts(self):
         for name in PLAIN:

@@ -270,6 +270,11 @@ class TestGame(unittest.TestCase):
         self.assertIs(is_forcing(5, 4, 0, table), True)
         for state in table:
             self.assertIs(is_forcing(5, 4, 0, {**table, state: (-1, table[state][1])}), False)
+        for a, b, c in states(5, 3):
+            # No turn that is named comes to (a, b, c) without a move: a bound of -1 there would do.
+            other = {**table, (a, b): (0, 0), (a, c): (0, 1)}
+            self.assertIs(is_forcing(5, 4, 0, other), True)
+            self.assertIs(is_forcing(5, 4, 0, {**other, (a, b, c): (-1, 0)}), False)
 
     def test_just_all_states(self):
         for many, items in [(5, 3), (4, 2), (4, 1)]:
