@@ -1,9 +1,9 @@
 """A keeper of all versions by entries: each field has one wherever, along the line, its value begins."""
 
-from asifcopied.changes import check_deed, done
+from asifcopied.changes import check_deed, with_field
 from asifcopied.checks import check_wide, is_between, is_held, is_number, is_pair
 from asifcopied.errors import BadEntries, BadField, BadMany, BadName, BadValues, NoEntry, NoRecord
-from asifcopied.growth import Growth
+from asifcopied.growth import Growth, Line
 from asifcopied.heaps import seen_from_root
 from asifcopied.lines import check_parents, check_version, climbs_to, count_first, lined, places_of, stretch_in
 
@@ -97,6 +97,20 @@ def dear_story(many):
     return row + [(version, [("set", 0, 0, 1)]) for version in range(many)]
 
 
+def written(changes, many):
+    """The dict of what a deed writes at last into fields of elder records, and the list of those that it makes."""
+    fields = {}
+    rows = []
+    for change in changes:
+        if change[0] == "make":
+            rows.append(change[1])
+        elif change[1] < many:
+            fields[(change[1], change[2])] = change[3]
+        else:
+            rows[change[1] - many] = with_field(rows[change[1] - many], change[2], change[3])
+    return fields, rows
+
+
 class Fat:
     """A keeper of all versions of a heap: the entries of each field are the least ones."""
 
@@ -105,8 +119,7 @@ class Fat:
         self.wide = wide
         self._growth = Growth()
         self._deeds = [[]]
-        self._line = [0]
-        self._places = [0]
+        self._line = Line()
         self._entries = {(0, 0): [[(0, None)] for _ in range(wide)]}
 
     def _names(self, version):
@@ -120,7 +133,7 @@ class Fat:
     def _held(self, name, field, version):
         """What the field of the record with this name holds at a version at which it is there."""
         entries = self._entries[name][field]
-        return entries[up_to(entries, self._places, version) - 1][1]
+        return entries[up_to(entries, self._line.labels, version) - 1][1]
 
     def _heap(self, version):
         """The version's heap."""
@@ -138,23 +151,17 @@ class Fat:
             raise BadField("a field is a number below wide")
 
     def _check_name(self, name):
-        if not is_pair(name) or not is_between(name[0], 0, len(self._line) - 1):
+        if not is_pair(name) or not is_between(name[0], 0, len(self._deeds) - 1):
             raise BadName("a name is a pair of a version and which of its records is meant")
         if not is_between(name[1], 0, self._growth.counts[name[0]] - self._growth.first(name[0]) - 1):
             raise BadName("the version has made no such record")
 
-    def _grow(self, parent, changes, count):
-        """A new version, right behind its parent in the line."""
-        fresh = self._growth.grow(parent, count)
-        self._deeds.append(list(changes))
-        self._line.insert(self._places[parent] + 1, fresh)
-        self._places = places_of(self._line)
-        return fresh
-
     def _write(self, entries, version, value, behind):
-        """Put an entry, and let behind, the version right behind, or None, read what it read until then."""
-        at = up_to(entries, self._places, version)
+        """Put an entry of another value, and let behind, the version right behind, or None, read what it read."""
+        at = up_to(entries, self._line.labels, version)
         until = entries[at - 1][1]
+        if until == value:
+            return
         entries.insert(at, (version, value))
         if behind is None:
             return
@@ -163,29 +170,27 @@ class Fat:
         elif entries[at + 1][1] == value:
             del entries[at + 1]
 
-    def _behind(self, version):
-        """The version right behind a version, None behind the last one."""
-        at = self._places[version] + 1
-        return self._line[at] if at < len(self._line) else None
+    def _write_all(self, parent, fresh, fields):
+        """Give the fields, a dict by record and field, of elder records their values at the new version."""
+        behind = self._line.nexts[fresh]
+        # What stands right behind a version is a child of one on its way up: they share that one's records.
+        common = 0 if behind is None else self._growth.first(behind)
+        for (record, field), value in fields.items():
+            name = self._named(self._growth.maker(parent, record), record)
+            self._write(self._entries[name][field], fresh, value, behind if record < common else None)
 
     def deed(self, version, changes):
         """The number of a new version, which the changes make out of the version."""
         self._growth.check(version)
-        count = check_deed(changes, self.wide, self._growth.counts[version])
-        ahead = self._heap(version)
-        heap = done(ahead, changes)
-        names = self._names(version)
-        behind = self._behind(version)
-        # What stands right behind a version is a child of one on its way up: they share that one's records.
-        shared = 0 if behind is None else self._growth.first(behind)
-        fresh = self._grow(version, changes, count)
-        for record, name in enumerate(names):
-            for field in range(self.wide):
-                if heap[record][field] != ahead[record][field]:
-                    reader = behind if record < shared else None
-                    self._write(self._entries[name][field], fresh, heap[record][field], reader)
-        for which in range(count - len(ahead)):
-            self._entries[(fresh, which)] = [[(fresh, value)] for value in heap[len(ahead) + which]]
+        many = self._growth.counts[version]
+        count = check_deed(changes, self.wide, many)
+        fresh = self._growth.grow(version, count)
+        self._line.put(version)
+        self._deeds.append(list(changes))
+        fields, rows = written(changes, many)
+        self._write_all(version, fresh, fields)
+        for which, row in enumerate(rows):
+            self._entries[(fresh, which)] = [[(fresh, value)] for value in row]
         return fresh
 
     def heap(self, version):
@@ -215,7 +220,7 @@ class Fat:
 
     def line(self):
         """The tuple of the versions in their line."""
-        return tuple(self._line)
+        return tuple(self._line.row())
 
     def story(self):
         """The story that made the versions."""

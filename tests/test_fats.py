@@ -2,6 +2,7 @@
 
 import copy
 import random
+import sys
 import unittest
 
 from asifcopied.changes import heaps_of, is_story
@@ -282,6 +283,73 @@ class TestPrices(unittest.TestCase):
         self.assertEqual(fat.many(1999), 2000)
         self.assertEqual(fat.name(1999, 1999), (1999, 0))
         self.assertEqual(fat.heap(1999), plain_heaps(fat.story(), 1)[1999])
+
+
+def lines_done(call):
+    """How many lines are done in a call, in all functions."""
+    lines = [0]
+
+    def trace(frame, event, arg):
+        lines[0] += event == "line"
+        return trace
+
+    ahead = sys.gettrace()
+    sys.settrace(trace)
+    try:
+        call()
+    finally:
+        sys.settrace(ahead)
+    return lines[0]
+
+
+class TestLongRows(unittest.TestCase):
+    def row(self, many):
+        """A row of versions with empty deeds but for the one at version 1,000, and a change of what it made."""
+        fat, copies = Fat(1), Copies(1)
+        for version in range(many):
+            changes = [("make", (1000,)), ("set", 0, 0, ("to", 1))] if version == 1000 else []
+            self.assertEqual(fat.deed(version, changes), version + 1)
+            copies.deed(version, changes)
+        fat.deed(1000, [("set", 0, 0, 5)])
+        copies.deed(1000, [("set", 0, 0, 5)])
+        return fat, copies
+
+    def test_what_is_told(self):
+        fat, copies = self.row(1010)
+        self.assertEqual(fat.parents(), (None,) + tuple(range(1010)) + (1000,))
+        self.assertEqual(fat.line(), tuple(range(1001)) + (1011,) + tuple(range(1001, 1011)))
+        self.assertEqual(fat.story(), copies.story)
+        for version in range(1012):
+            self.assertEqual(fat.heap(version), copies.heaps[version])
+            self.assertEqual(fat.many(version), len(copies.heaps[version]))
+            self.assertEqual(fat.name(version, 0), (0, 0))
+            self.assertEqual(fat.number(version, (0, 0)), 0)
+            there = 1001 <= version <= 1010
+            self.assertEqual(fat.number(version, (1001, 0)), 1 if there else None)
+            self.assertEqual(fat.read(version, 0, 0), 5 if version == 1011 else ("to", 1) if there else None)
+            if there:
+                self.assertEqual((fat.name(version, 1), fat.read(version, 1, 0)), ((1001, 0), 1000))
+        self.assertEqual(fat.entries((0, 0), 0), ((0, None), (1011, 5), (1001, ("to", 1))))
+        self.assertEqual(fat.entries((1001, 0), 0), ((1001, 1000),))
+        self.assertEqual(fat.count(), 4)
+
+    def test_an_empty_deed_takes_no_longer(self):
+        short, long = Fat(1), self.row(1010)[0]
+        for version in range(10):
+            short.deed(version, [])
+        self.assertEqual(lines_done(lambda: short.deed(10, [])), lines_done(lambda: long.deed(1010, [])))
+        self.assertEqual(lines_done(lambda: short.deed(5, [])), lines_done(lambda: long.deed(500, [])))
+
+    def test_many_versions_in_one_place(self):
+        """So many versions come right behind one that the line has to be laid anew, twice."""
+        fat = Fat(1)
+        for number in range(1200):
+            fat.deed(0, [("set", 0, 0, number)] if number % 3 else [])
+        self.assertEqual(fat.line(), (0,) + tuple(range(1200, 0, -1)))
+        for version in range(1, 1201):
+            self.assertEqual(fat.read(version, 0, 0), version - 1 if (version - 1) % 3 else None)
+        values = {version: fat.read(version, 0, 0) for version in range(1201)}
+        self.assertEqual(fat.entries((0, 0), 0), plain_least(fat.parents(), 0, values))
 
 
 if __name__ == "__main__":

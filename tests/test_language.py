@@ -10,7 +10,9 @@ import unittest
 import asifcopied
 
 PACKAGE = pathlib.Path(asifcopied.__file__).parent
-MODULES = ["errors", "checks", "heaps", "changes", "lines", "growth", "fats", "labels", "moves", "cells"]
+# The modules of the interface in its sequence, the further ones among them.
+MODULES = """errors checks heaps changes lines growth fats labels moves cells splits tracks copying games duels forests
+programs coding piles meanings folding machines queues""".split()
 INTERFACE = """
 checks: is_heap(value, wide)
 heaps: pointed(heap, wide), reached(heap, wide), seen(heap, wide), look_alike(one, other, wide)
@@ -25,6 +27,23 @@ moves: is_state(value, many), price_between(many, state, place, later), gap_behi
 moves: tight_place(many, state, left), halfway(many, state, place), least_price(many, items), keeping(many, items)
 moves: forcing(many, items), is_keeping(many, items, price, value), is_forcing(many, items, price, value)
 cells: Cells(wide, room, most)
+splits: fault_of(story, wide, room, table)
+copying: is_course(value, wide), touched(story, wide, version), is_plan(value, story, wide), used_slots(story, wide, plan)
+copying: is_good(story, wide, extra, plan), copy_cells(story, wide, extra, plan), read_cells(cells, version, way)
+copying: least_plan(story, wide, extra), reason_for(story, wide, extra, version, record), Copier(wide, extra)
+duels: most_pointed(story, wide), paid_rows(story, wide, extra), adds_up(extra, most, value), is_shape(value)
+duels: shape_story(shape, moves), ring_shape(most), ring_moves(most, extra, rounds)
+duels: used_behind(shape, extra, used, record, copied), fewest(shape, extra, moves), best_plan(shape, extra, moves)
+duels: holding(shape, extra, price), pressing(shape, extra, price), is_holding(shape, extra, price, value)
+duels: is_pressing(shape, extra, price, value), duel_price(shape, extra)
+forests: is_forest(shape), forest_weights(shape, extra), forest_price(shape, extra), forest_copies(shape, extra, counts)
+forests: tree_shape(most, deep)
+programs: is_program(value, wide), faults(program, wide)
+coding: is_code(value, wide), heights(code, wide), compiled(program, wide)
+meanings: run(program, heap, wide, name, given, most)
+folding: folded(program, wide)
+machines: Plain(wide), Machine(code, keeper, version, name, given, most)
+queues: queue_program(), ends_program()
 """
 METHODS = {
     "fats.Fat": "deed(version, changes), heap(version), look(version), many(version), read(version, record, field), "
@@ -33,7 +52,11 @@ METHODS = {
                      "__eq__(other)",
     "cells.Cells": "deed(version, changes), many(version), read(version, record, field), heap(version), root(version), "
                    "step(version, cell, field), walk(version, way), shown(version), line(), parents(), cells(), splits(), "
-                   "things(cell), pointing(cell), split(cell, version)"}
+                   "things(cell), pointing(cell), split(cell, version)",
+    "copying.Copier": "deed(version, changes), many(version), heap(version), read(version, record, field), plan(), cells(), "
+                      "used()",
+    "machines.Plain": "many(version), read(version, record, field), deed(version, changes), heap(version)",
+    "machines.Machine": "step(), turn(many), is_over(), outcome(), standing(), end(), leaned()"}
 LET = """len range enumerate zip min max sum abs sorted reversed int str bool list tuple dict set isinstance ord repr any all
 divmod ValueError""".split()
 WORDS = """append clear copy count endswith extend find get index insert isalnum isalpha isdigit islower isspace isupper
@@ -42,6 +65,8 @@ split splitlines startswith strip update upper values zfill bit_length""".split(
 BARRED = """mro elements open input law version_info with_traceback add_note register type typing enum Enum Flag Generic
 Protocol ABC namedtuple dataclass overload contextmanager eval exec compile id dir vars globals locals getattr setattr
 hasattr super map chr format hash next iter filter print round float object""".split()
+CHANGING = "append clear extend insert pop remove reverse setdefault update sort".split()
+ITERATING = "list tuple dict sorted sum any all enumerate zip min max len reversed".split()
 PLAIN = (ast.FunctionDef, ast.ClassDef, ast.ImportFrom, ast.Assign, ast.Expr)
 BARRED_NODES = (ast.GeneratorExp, ast.SetComp, ast.Set, ast.AsyncFunctionDef, ast.Global, ast.Nonlocal, ast.Div, ast.Yield,
                 ast.YieldFrom, ast.Import, ast.With, ast.Starred, ast.NamedExpr, ast.AnnAssign, ast.JoinedStr, ast.Pow)
@@ -58,6 +83,43 @@ def listed(text):
 
 def trees():
     return [(path, ast.parse(path.read_text())) for path in sorted(PACKAGE.glob("*.py"))]
+
+
+def functions_above(tree, node):
+    return [told.name for told in tree.body if isinstance(told, ast.FunctionDef) and told.lineno < node.lineno]
+
+
+def is_plain(node, functions, inner=False):
+    """Whether a module-level value is plain: constants, shifts of them, and tables of them and of functions."""
+    if isinstance(node, ast.Dict) and not inner:
+        return all(is_plain(part, functions, True) for part in node.keys + node.values)
+    if isinstance(node, ast.Tuple):
+        return all(is_plain(part, functions, True) for part in node.elts)
+    if isinstance(node, ast.BinOp):
+        return isinstance(node.op, ast.LShift) and is_plain(node.left, ()) and is_plain(node.right, ())
+    return isinstance(node, ast.Constant) or isinstance(node, ast.Name) and node.id in functions
+
+
+def without_copies(node):
+    """The parts of an expression that a loop goes over, but for what is copied by list or sorted first."""
+    if isinstance(node, ast.Call) and isinstance(node.func, ast.Name) and node.func.id in ("list", "sorted", "range"):
+        return []
+    if isinstance(node, ast.Subscript):
+        return [node] + without_copies(node.value)
+    return [node] + [part for inner in ast.iter_child_nodes(node) for part in without_copies(inner)]
+
+
+def bound_in(function):
+    """The names that are params or are assigned in a function, and in what is nested in it."""
+    told = set()
+    for node in ast.walk(function):
+        if isinstance(node, ast.Name) and isinstance(node.ctx, ast.Store):
+            told.add(node.id)
+        if isinstance(node, ast.arg):
+            told.add(node.arg)
+        if isinstance(node, ast.FunctionDef) and node is not function:
+            told.add(node.name)
+    return told
 
 
 def own_methods():
@@ -118,7 +180,7 @@ class TestLanguage(unittest.TestCase):
             for at, node in enumerate(tree.body):
                 self.assertIsInstance(node, PLAIN)
                 if isinstance(node, ast.Assign):
-                    self.assertIsInstance(node.value, ast.Constant)
+                    self.assertTrue(is_plain(node.value, functions_above(tree, node)), (path, node.lineno))
                     self.assertEqual([type(target) for target in node.targets], [ast.Name])
                 self.assertTrue(at == 0 or not isinstance(node, ast.Expr))
 
@@ -185,6 +247,58 @@ class TestLanguage(unittest.TestCase):
                     self.assertIn(node.func.attr, own | set(WORDS), (path, node.lineno))
                 if isinstance(node, ast.Attribute):
                     self.assertNotIn(node.attr, BARRED)
+
+    def test_one_meaning_for_each_name(self):
+        """No local name is that of a class, a function or an import of its file; no name is bound twice."""
+        for path, tree in trees():
+            names = [alias.name for node in tree.body if isinstance(node, ast.ImportFrom) for alias in node.names]
+            names += [node.name for node in tree.body if isinstance(node, (ast.FunctionDef, ast.ClassDef))]
+            names += [target.id for node in tree.body if isinstance(node, ast.Assign) for target in node.targets]
+            self.assertEqual(len(set(names)), len(names), path)
+            for node in ast.walk(tree):
+                if isinstance(node, ast.ClassDef):
+                    methods = [told.name for told in node.body if isinstance(told, ast.FunctionDef)]
+                    self.assertEqual(len(set(methods)), len(methods), path)
+                if isinstance(node, ast.FunctionDef):
+                    self.assertEqual(bound_in(node) & set(names), set(), (path, node.name))
+
+    def test_what_is_iterated_over_is_not_changed(self):
+        """No loop modifies, by its name, what it goes over."""
+        for path, tree in trees():
+            for node in ast.walk(tree):
+                if not isinstance(node, ast.For):
+                    continue
+                over = {ast.unparse(part) for part in without_copies(node.iter)
+                        if isinstance(part, (ast.Name, ast.Attribute, ast.Subscript))} - {"self", "range"}
+                changed = set()
+                for part in ast.walk(node):
+                    if isinstance(part, ast.Call) and isinstance(part.func, ast.Attribute) and part.func.attr in CHANGING:
+                        changed.add(ast.unparse(part.func.value))
+                    if isinstance(part, ast.Subscript) and not isinstance(part.ctx, ast.Load):
+                        changed.add(ast.unparse(part.value))
+                called = {ast.unparse(part.func.value) for part in ast.walk(node.iter)
+                          if isinstance(part, ast.Call) and isinstance(part.func, ast.Attribute)}
+                self.assertEqual(over & changed - called, set(), (path, node.lineno))
+
+    def test_ranges_and_views_are_not_handed_on(self):
+        """range, zip and their kind are iterated at once, or kept by a plain local variable."""
+        for path, tree in trees():
+            for node in ast.walk(tree):
+                parts = []
+                if isinstance(node, ast.Return):
+                    parts = [node.value]
+                elif isinstance(node, (ast.Tuple, ast.List)):
+                    parts = node.elts
+                elif isinstance(node, ast.Assign) and not isinstance(node.targets[0], ast.Name):
+                    parts = [node.value]
+                elif isinstance(node, ast.Call):
+                    name = node.func.id if isinstance(node.func, ast.Name) else ""
+                    parts = [] if name in ITERATING else node.args
+                for part in parts:
+                    if isinstance(part, ast.Call) and isinstance(part.func, ast.Name):
+                        self.assertNotIn(part.func.id, ("range", "zip", "enumerate", "reversed"), (path, part.lineno))
+                    if isinstance(part, ast.Call) and isinstance(part.func, ast.Attribute):
+                        self.assertNotIn(part.func.attr, ("items", "keys", "values"), (path, part.lineno))
 
     def test_attributes(self):
         """No name is a method and an attribute of one class; sets are stored nowhere in objects."""

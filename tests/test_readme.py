@@ -10,14 +10,21 @@ README = pathlib.Path(__file__).parent.parent / "README.md"
 
 class TestReadme(unittest.TestCase):
     def test_how_to_use_it(self):
-        code = README.read_text().split("```python\n")[1].split("```")[0]
+        pieces = [piece.split("```")[0] for piece in README.read_text().split("```python\n")[1:]]
         told = {}
-        exec(code, told)
+        exec(pieces[0], told)
         fat, cells = told["fat"], told["cells"]
         self.assertEqual(fat.heap(told["two"]), ((("to", 1), None), (2, None)))
         self.assertEqual(fat.read(told["other"], 1, 0), 1)
         self.assertEqual(heaps_of(fat.story(), 2), tuple(fat.heap(version) for version in range(4)))
         self.assertIsNone(cells.walk(1, [0, 0]))
+        exec(pieces[1], told)
+        self.assertEqual(told["run"](told["queue"], ((None, None),), 2, "put", [7], 100),
+                         (None, [("make", (7, None)), ("set", 0, 1, ("to", 1))], 8))
+        self.assertEqual((told["one"], told["take"].outcome()[1]), (1, 7))
+        exec(pieces[2], told)
+        self.assertEqual(told["copier"].heap(1), ((("to", 1), None), (1, None)))
+        self.assertEqual(told["duel_price"](told["ring_shape"](2), 2), (4, 5))
 
 
 if __name__ == "__main__":
