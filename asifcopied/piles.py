@@ -262,7 +262,7 @@ class Going:
 def place_of(functions, name):
     """The place of the function with this name."""
     for at, function in enumerate(functions):
-        if isinstance(name, str) and function[0] == name:
+        if function[0] == name:
             return at
     raise BadName("a name is that of one of the functions")
 

@@ -67,41 +67,38 @@ def clauses_of(value, wide):
 def left_by_expression(value, wide, level, left):
     """How many more statements and expressions are let behind an expression, -1 if it cannot stand here."""
     parts = parts_of(value, wide)
-    if parts is None or level > MOST_LEVELS or left == 0:
+    if parts is None or level > MOST_LEVELS or left <= 0:
         return -1
-    left -= 1
+    return left_by_parts(parts, wide, level + 1, left - 1)
+
+
+def left_by_parts(parts, wide, level, left):
+    """How many more are let behind expressions, -1 if they cannot all stand here."""
     for part in parts:
-        left = left_by_expression(part, wide, level + 1, left)
-        if left < 0:
-            return -1
+        left = left_by_expression(part, wide, level, left)
     return left
 
 
 def left_by_statement(value, wide, level, left):
-    """How many more statements and expressions are let behind a statement, -1 if it cannot stand here."""
+    """How many more are let behind a statement, -1 if it cannot stand here."""
     clauses = clauses_of(value, wide)
-    if clauses is None or level > MOST_LEVELS or left == 0:
+    if clauses is None or left <= 0:
         return -1
-    left -= 1
-    for part in clauses[0]:
-        left = left_by_expression(part, wide, level + 1, left)
-        if left < 0:
-            return -1
+    left = left_by_parts(clauses[0], wide, level + 1, left - 1)
     for block in clauses[1]:
         left = left_by_block(block, wide, level + 1, left)
-        if left < 0:
-            return -1
     return left
 
 
 def left_by_block(value, wide, level, left):
-    """How many more statements and expressions are let behind a block, -1 if it cannot stand here."""
+    """How many more are let behind a block, -1 if it cannot stand here.
+
+    Each statement has an expression one level deeper, so that the levels of expressions alone have to be looked at.
+    """
     if not isinstance(value, tuple):
         return -1
     for statement in value:
         left = left_by_statement(statement, wide, level, left)
-        if left < 0:
-            return -1
     return left
 
 
@@ -113,13 +110,11 @@ def are_unlike(words):
 
 
 def is_function(value):
-    """Whether any value is a function, but for its block."""
+    """Whether any value is a function, but for its name and its block."""
     if not isinstance(value, tuple) or len(value) != 3:
         return False
-    name, params, _ = value
-    if not is_word(name) or not isinstance(params, tuple) or len(params) > MOST_PARAMS:
-        return False
-    return are_unlike(params)
+    params = value[1]
+    return isinstance(params, tuple) and len(params) <= MOST_PARAMS and are_unlike(params)
 
 
 def is_program(value, wide):
@@ -134,9 +129,7 @@ def is_program(value, wide):
     left = MOST_PARTS
     for _, _, block in value:
         left = left_by_block(block, wide, 1, left)
-        if left < 0:
-            return False
-    return True
+    return left >= 0
 
 
 def check_program(program, wide):

@@ -95,8 +95,15 @@ class TestIsCode(unittest.TestCase):
         self.assertEqual(heights(code, 1), (0, 1, None, None, None, None))
         self.assertEqual(heights(one(("jump", 2), ("push", 7), *HALT), 1), (0, None, 0, 1))
         # What is never come to has to be an instruction all the same.
-        for bad in [("load", 0), ("get", 1), ("jump", 9), ("push", True), ("what",), None, ["drop"]]:
+        for bad in [("load", 0), ("get", 1), ("jump", 9), ("jump", 3), ("skip", 3), ("push", True), ("what",), ("what", 1), None,
+                    ["drop"], (["drop"],), ([], 1), ({}, 0)]:
             self.assertIs(is_code(one(*HALT, bad), 1), False, bad)
+        for at in range(3):
+            self.assertIs(is_code(one(*HALT, ("jump", at)), 1), True)
+            # The next function begins at place 3: no jump goes there.
+            functions = (("f", 0, 0, 0), ("g", 3, 0, 0))
+            self.assertIs(is_code((functions, HALT + (("jump", at),) + HALT), 1), True)
+            self.assertIs(is_code((functions, HALT + (("skip", 3 + at),) + HALT), 1), False)
 
     def test_wrong_heights(self):
         bad = [one(("push", 1)), one(("jump", 1)), one(("push", 1), ("skip", 3), ("jump", 0)), one(("drop",), *HALT),
@@ -130,6 +137,11 @@ class TestIsCode(unittest.TestCase):
             self.assertIs(is_code((other, row), 2), False, other)
         for word in WORDS:
             self.assertIs(is_code((((word, 0, 0, 0),), HALT), 2), True)
+        for begins, right in [((0, 1, 2), True), ((0, 2, 4), True), ((0, 0, 1), False), ((0, 2, 2), False), ((0, 4, 2), False),
+                              ((1, 2, 4), False), ((0, 2, 5), False), ((0, 2, 6), False)]:
+            functions = tuple((name, begin, 0, 0) for name, begin in zip("fgh", begins))
+            row = (("jump", 0), ("jump", 1)) + HALT + HALT if begins == (0, 1, 2) else HALT * 3
+            self.assertIs(is_code((functions, row), 2), right, begins)
 
     def test_row_spoilt(self):
         functions, row = CODE

@@ -43,7 +43,7 @@ def spoilt(told, kinds):
         yield told[:at] + told[at + 1:]
     yield told + (ONE,)
     yield list(told)
-    for word in ["", "IS", "gives", None, True, 1, (), "self"]:
+    for word in ["", "IS", "gives", None, True, 1, (), "self", ["is"], [], {}, ("is",)]:
         yield (word,) + told[1:]
 
 
@@ -82,6 +82,10 @@ class TestIsProgram(unittest.TestCase):
             for other in spoilt(told, kinds):
                 self.assertIs(is_program(with_part(other), 2), False, other)
                 self.assertIs(is_program(with_part(("while", ONE, (told, other))), 2), False, other)
+
+    def test_parts_of_calls(self):
+        for many in range(7):
+            self.assertIs(is_program(with_part(("do", ("call", "g", (ONE,) * many))), 1), many <= 4)
 
     def test_wide(self):
         for wide in range(1, 7):
@@ -126,6 +130,10 @@ class TestIsProgram(unittest.TestCase):
             other = (("do", ("not", ONE)),) * (166 + more) + (("give", ONE),) * (1 - more)
             program = (("f", (), one), ("g", (), other))
             self.assertIs(is_program(program, 1), more == 0)
+        # The last ones stand in a part of an expression, and in a block of a statement.
+        for last in [("do", ("not", ("not", ONE))), ("while", ONE, (("do", ONE),)), ("if", ONE, (), (("do", ONE),))]:
+            for more in (0, 1):
+                self.assertIs(is_program((("f", (), (("do", ONE),) * (498 + more) + (last,)),), 1), more == 0)
         self.assertTrue(is_program((("f", (), (("do", ONE),) * 500),), 1))
         self.assertFalse(is_program((("f", (), (("do", ONE),) * 500), ("g", (), (("give", ONE),))), 1))
         wide = ONE
