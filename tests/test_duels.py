@@ -60,6 +60,7 @@ class TestPaid(unittest.TestCase):
         rows = ((1, 0, 0, 1), (1, 0, 0, 2), (2, 1, 1, 1))
         self.assertTrue(adds_up(extra=3, most=1, value=rows))
         self.assertTrue(adds_up(3, 1, ()))
+        self.assertTrue(adds_up(60, 12000, ((1, 1, 60, 0),)))
         self.assertFalse(adds_up(3, 0, rows))
         self.assertFalse(adds_up(4, 1, rows))
         for at, other in [(0, (0, 0, 0, 1)), (0, (1, 0, 0, 2)), (1, (1, 0, 0, 0)), (2, (2, 1, 1, 2)), (2, (1, 1, 1, 1)),
@@ -367,6 +368,7 @@ class TestPapers(unittest.TestCase):
         self.assertEqual(duel_price(ring_shape(2), 2), (4, 5))
         self.assertEqual([duel_price(((),), extra) for extra in (0, 1, 60)], [(1, 1), (1, 2), (1, 61)])
         self.assertEqual(duel_price(((0,),), 0), (1, 1))
+        self.assertEqual(duel_price(((), ()), 9), (1, 10))
         self.assertEqual(duel_price(((), (0,), (1,)), 0), (3, 1))
 
     def test_just_one_price(self):

@@ -44,14 +44,19 @@ class TestLine(unittest.TestCase):
                 self.check(line, parents)
 
     def test_one_place(self):
-        """The gap between two versions is used up, and labels are laid anew."""
-        line, parents = Line(), [None]
-        for at in range(GAP.bit_length() * 2 + 20):
-            parents.append(0)
-            line.put(0)
-            if at % 50 == 0 or at > GAP.bit_length() * 2:
-                self.check(line, parents)
-        self.assertGreater(line.labels[1], GAP)
+        """The gap between two versions is used up, wherever it is, and labels are laid anew."""
+        for place in (0, 1, 2):
+            line, parents = Line(), [None]
+            for parent in [0, 1, 2] + [place] * (GAP.bit_length() * 2 + 20):
+                behind = line.nexts[parent]
+                parents.append(parent)
+                line.put(parent)
+                fresh = len(parents) - 1
+                self.assertLess(line.labels[parent], line.labels[fresh])
+                if behind is not None:
+                    self.assertLess(line.labels[fresh], line.labels[behind])
+            self.check(line, parents)
+            self.assertGreater(line.labels[3], 3 * GAP)
 
 
 if __name__ == "__main__":
