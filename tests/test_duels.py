@@ -341,6 +341,20 @@ class TestPapers(unittest.TestCase):
         for worth in [pot, None, (pot,), [pot, 0], (pot, 2), (pot, -1), (pot, True), (pot, None), (pot, 0, 0), (pot, "0")]:
             self.assertFalse(is_pressing(PAIR, 1, (3, 4), {**presses, (1, 1): worth}))
 
+    def test_form_where_any_pots_do(self):
+        """Prices at which all pots and records do: what is no number from 0 on, or no record, is refused all the same."""
+        holds = {used: 0 for used in all_used(PAIR, 1)}
+        presses = {used: (0, 0) for used in all_used(PAIR, 1)}
+        for pot in (0, 1, 5):
+            self.assertTrue(is_holding(PAIR, 1, (1000, 1), {**holds, (1, 1): pot}))
+            self.assertTrue(is_pressing(PAIR, 1, (0, 1), {used: (pot, 1) for used in presses}))
+        for pot in [True, False, -1]:
+            self.assertFalse(is_holding(PAIR, 1, (1000, 1), {**holds, (1, 1): pot}))
+            self.assertFalse(is_holding(PAIR, 1, (1000, 1), {used: pot for used in holds}))
+            self.assertFalse(is_pressing(PAIR, 1, (0, 1), {used: (pot, 0) for used in presses}))
+        for record in [True, False, -1, 2, 3]:
+            self.assertFalse(is_pressing(PAIR, 1, (0, 1), {**presses, (1, 1): (0, record)}))
+
     def test_bad_prices(self):
         for bad in [None, 1, (1,), [1, 1], (1, 1, 1), (-1, 1), (1, 0), (True, 1), (1, True), (1001, 1), (1, 1001), ("1", 1),
                     (1, None), (10 ** 18, 1), {1: 1, 2: 2}]:
