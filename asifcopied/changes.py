@@ -102,11 +102,8 @@ def heaps_of(story, wide):
     return tuple(heaps)
 
 
-def heap_at(story, wide, version):
-    """The heap of one version."""
-    check_story(story, wide)
-    if not is_between(version, 0, len(story)):
-        raise BadVersion("a version is the number of one of the story")
+def heap_by(story, wide, version):
+    """The heap of a version that is known to be one of the story."""
     way = []
     while version > 0:
         parent, deed = story[version - 1]
@@ -116,3 +113,11 @@ def heap_at(story, wide, version):
     for deed in reversed(way):
         changes.extend(deed)
     return done(first_heap(wide), changes)
+
+
+def heap_at(story, wide, version):
+    """The heap of one version."""
+    check_story(story, wide)
+    if not is_between(version, 0, len(story)):
+        raise BadVersion("a version is the number of one of the story")
+    return heap_by(story, wide, version)

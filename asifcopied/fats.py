@@ -111,6 +111,25 @@ def written(changes, many):
     return fields, rows
 
 
+def write_entry(entries, places, version, value, behind):
+    """Put an entry of another value at a version that has none, and let behind read what it read.
+
+    behind is the next version behind it at which the field is read, None if there is none; what stands between them
+    reads nothing here. The entries stay the least ones.
+    """
+    at = up_to(entries, places, version)
+    until = entries[at - 1][1]
+    if until == value:
+        return
+    entries.insert(at, (version, value))
+    if behind is None:
+        return
+    if at + 1 == len(entries) or entries[at + 1][0] != behind:
+        entries.insert(at + 1, (behind, until))
+    elif entries[at + 1][1] == value:
+        del entries[at + 1]
+
+
 class Fat:
     """A keeper of all versions of a heap: the entries of each field are the least ones."""
 
@@ -156,20 +175,6 @@ class Fat:
         if not is_between(name[1], 0, self._growth.counts[name[0]] - self._growth.first(name[0]) - 1):
             raise BadName("the version has made no such record")
 
-    def _write(self, entries, version, value, behind):
-        """Put an entry of another value, and let behind, the version right behind, or None, read what it read."""
-        at = up_to(entries, self._line.labels, version)
-        until = entries[at - 1][1]
-        if until == value:
-            return
-        entries.insert(at, (version, value))
-        if behind is None:
-            return
-        if at + 1 == len(entries) or entries[at + 1][0] != behind:
-            entries.insert(at + 1, (behind, until))
-        elif entries[at + 1][1] == value:
-            del entries[at + 1]
-
     def _write_all(self, parent, fresh, fields):
         """Give the fields, a dict by record and field, of elder records their values at the new version."""
         behind = self._line.nexts[fresh]
@@ -177,7 +182,8 @@ class Fat:
         common = 0 if behind is None else self._growth.first(behind)
         for (record, field), value in fields.items():
             name = self._named(self._growth.maker(parent, record), record)
-            self._write(self._entries[name][field], fresh, value, behind if record < common else None)
+            later = behind if record < common else None
+            write_entry(self._entries[name][field], self._line.labels, fresh, value, later)
 
     def deed(self, version, changes):
         """The number of a new version, which the changes make out of the version."""

@@ -12,7 +12,7 @@ import asifcopied
 PACKAGE = pathlib.Path(asifcopied.__file__).parent
 # The modules of the interface in its sequence, the further ones among them.
 MODULES = """errors checks heaps changes lines growth fats labels moves cells splits tracks copying games duels forests
-programs coding piles meanings folding machines queues""".split()
+programs coding piles meanings folding machines queues trees holdings standings dropping ascents times differences""".split()
 INTERFACE = """
 checks: is_heap(value, wide)
 heaps: pointed(heap, wide), reached(heap, wide), seen(heap, wide), look_alike(one, other, wide)
@@ -44,6 +44,16 @@ meanings: run(program, heap, wide, name, given, most)
 folding: folded(program, wide)
 machines: Plain(wide), Machine(code, keeper, version, name, given, most)
 queues: queue_program(), ends_program()
+trees: tree_program()
+dropping: is_standing(value, many), needed(story, wide, standing), readers(story, wide, standing, name)
+dropping: serves(story, wide, standing, rows), least_rows(story, wide, standing)
+dropping: are_reasons(story, wide, standing, value), most_reasons(story, wide, standing), questions(story, wide, standing)
+dropping: Kept(wide), kept_of(state)
+ascents: way_up(parents, version), depths(parents), way_between(parents, one, other)
+ascents: shallowest_between(parents, one, other), Jumps(), maker(story, wide, version, record)
+times: led_to(heap, wide, way), times_of(story, wide, way, value), since(story, wide, version, way)
+times: giver(story, wide, version, record, field)
+differences: unlike(story, wide, one, other), least_deed(one, other, wide), least_changes(one, other, wide)
 """
 METHODS = {
     "fats.Fat": "deed(version, changes), heap(version), look(version), many(version), read(version, record, field), "
@@ -56,7 +66,10 @@ METHODS = {
     "copying.Copier": "deed(version, changes), many(version), heap(version), read(version, record, field), plan(), cells(), "
                       "used()",
     "machines.Plain": "many(version), read(version, record, field), deed(version, changes), heap(version)",
-    "machines.Machine": "step(), turn(many), is_over(), outcome(), standing(), end(), leaned()"}
+    "machines.Machine": "step(), turn(many), is_over(), outcome(), standing(), end(), leaned()",
+    "dropping.Kept": "deed(version, changes), many(version), read(version, record, field), look(version), "
+                     "reaches(version), standing(), total(), drop(version), kept_rows(), count(), state()",
+    "ascents.Jumps": "grow(parent), many(), parents(), jump(version), up(version, depth), first_with(version, marks, least)"}
 LET = """len range enumerate zip min max sum abs sorted reversed int str bool list tuple dict set isinstance ord repr any all
 divmod ValueError""".split()
 WORDS = """append clear copy count endswith extend find get index insert isalnum isalpha isdigit islower isspace isupper
