@@ -57,6 +57,10 @@ class Cells:
             if count > self.most:
                 raise TooPointed(record)
 
+    def _stand(self, parent):
+        """Let a new version stand in the line."""
+        self._order.put(parent)
+
     def _stands_by(self, one, other):
         """Whether one is other or stands ahead of it in the line."""
         return self._order.label(one) <= self._order.label(other)
@@ -68,7 +72,9 @@ class Cells:
 
     def _cell_at(self, name, version):
         """The number of the record's cell that has the version, at which the record is there."""
-        return self._rows[name][self._cells_by(name, version) - 1]
+        row = self._rows[name]
+        # Most records have one cell, which is not looked for.
+        return row[0] if len(row) == 1 else row[self._cells_by(name, version) - 1]
 
     def _cell_of(self, record, version):
         """The number of the cell that has the version, of the record with this number there."""
@@ -86,10 +92,11 @@ class Cells:
     def _in_force(self, number, field, version):
         """The pair of the version at which what is in force begins, and of what is in force."""
         cell = self._cells[number]
-        many = self._entries_by(cell.later[field], version)
+        later = cell.later[field]
+        many = self._entries_by(later, version) if later else 0
         if many == 0:
             return cell.beginning, cell.held[field]
-        return cell.later[field][many - 1]
+        return later[many - 1]
 
     def _plain(self, value):
         """The plain value that a value or a lead stands for."""
@@ -142,15 +149,24 @@ class Cells:
         self._tie(number, field, version, value)
         self._grown[number] = True
 
-    def _turn(self, number, field, version, lead):
-        """Let a lead that begins at the version lead elsewhere: the cell it led to is seen to by the caller."""
+    def _turn(self, elder, fresh, key):
+        """Let a lead to the elder cell lead to the new one."""
+        self._cells[elder].leads.pop(key)
+        number, version, field = key
         cell = self._cells[number]
         if version == cell.beginning:
-            cell.held[field] = lead
+            cell.held[field] = ("in", fresh)
         else:
             entries = cell.later[field]
-            entries[self._entries_by(entries, version) - 1] = (version, lead)
-        self._tie(number, field, version, lead)
+            entries[self._entries_by(entries, version) - 1] = (version, ("in", fresh))
+        self._tie(number, field, version, ("in", fresh))
+
+    def _straddle(self, fresh, key):
+        """Let a lead that is in force where the new cell begins lead to it from there on."""
+        number, begun, field = key
+        version = self._cells[fresh].beginning
+        if self._has(number, version) and self._in_force(number, field, version)[0] == begun:
+            self._put(number, field, version, ("in", fresh))
 
     def _write(self, number, field, version, value, behind):
         """Put the entry of a written field, and ahead of it one that keeps what the next version reads."""
@@ -159,6 +175,13 @@ class Cells:
             if begun != behind:
                 self._put(number, field, behind, until)
         self._put(number, field, version, value)
+
+    def _write_row(self, record, row, later, version, behind):
+        """Write the fields of a record that hold later something else than they held in the row ahead."""
+        cell = self._cell_of(record, version)
+        for field in range(self.wide):
+            if later[field] != row[field]:
+                self._write(cell, field, version, self._leading(later[field], version), behind)
 
     def _things(self, number):
         """The versions of the cell's things, in no sequence."""
@@ -187,27 +210,32 @@ class Cells:
     def _split(self, number, version):
         """Split a cell at a version of its own, not its beginning."""
         name = self._cells[number].name
-        held = [self._in_force(number, field, version)[1] for field in range(self.wide)]
+        held = self._held_anew(number, version)
         behind = self._cut(number, version)
         fresh = self._begin(name, version, held)
+        self._hand_over(fresh, behind)
+        self._lead_anew(number, fresh)
+        self._splits += 1
+
+    def _held_anew(self, number, version):
+        """The list of the values at the beginning of a cell that is split off at the version."""
+        return [self._in_force(number, field, version)[1] for field in range(self.wide)]
+
+    def _hand_over(self, fresh, behind):
+        """Give a new cell the entries that stand behind its beginning."""
         for field, entries in enumerate(behind):
             for begun, value in entries:
                 self._put(fresh, field, begun, value)
-        self._lead_anew(number, fresh)
-        self._splits += 1
 
     def _lead_anew(self, elder, fresh):
         """Let what leads to the elder cell at a version that is now the new cell's lead to the new one."""
         version = self._cells[fresh].beginning
-        leads = self._cells[elder].leads
-        keys = sorted(leads)
+        keys = sorted(self._cells[elder].leads)
         for key in keys:
-            number, begun, field = key
-            if self._stands_by(version, begun):
-                leads.pop(key)
-                self._turn(number, field, begun, ("in", fresh))
-            elif self._has(number, version) and self._in_force(number, field, version)[0] == begun:
-                self._put(number, field, version, ("in", fresh))
+            if self._stands_by(version, key[1]):
+                self._turn(elder, fresh, key)
+            else:
+                self._straddle(fresh, key)
 
     def _settle(self):
         """Split cells as long as some cell has more than room things."""
@@ -225,24 +253,25 @@ class Cells:
     def deed(self, version, changes):
         """The number of a new version, which the changes make out of the version."""
         self._growth.check(version)
-        count = check_deed(changes, self.wide, self._growth.counts[version])
+        check_deed(changes, self.wide, self._growth.counts[version])
         ahead = self._heap(version)
-        heap = done(ahead, changes)
+        return self.grow(version, ahead, done(ahead, changes))
+
+    def grow(self, version, ahead, heap):
+        """The number of a new version, which has the heap where the version has the one ahead of it."""
         self._check_pointed(heap)
-        self._order.put(version)
-        fresh = self._growth.grow(version, count)
-        made = range(len(ahead), count)
+        self._stand(version)
+        fresh = self._growth.grow(version, len(heap))
+        made = range(len(ahead), len(heap))
         for record in made:
             self._begin((fresh, record), fresh, [None] * self.wide)
         for record in made:
             held = [self._leading(value, fresh) for value in heap[record]]
             self._fill(self._cell_at((fresh, record), fresh), held)
         behind = self._order.behind(fresh)
-        for record, name in enumerate(self._growth.made(version)):
-            cell = self._cell_at(name, fresh)
-            for field in range(self.wide):
-                if heap[record][field] != ahead[record][field]:
-                    self._write(cell, field, fresh, self._leading(heap[record][field], fresh), behind)
+        for record, row in enumerate(ahead):
+            if heap[record] != row:
+                self._write_row(record, row, heap[record], fresh, behind)
         self._settle()
         return fresh
 
@@ -305,13 +334,17 @@ class Cells:
         numbers = {row[0]: 0}
         heap = []
         while len(heap) < len(row):
-            held = [self._in_force(row[len(heap)], field, version)[1] for field in range(self.wide)]
+            held = [self._shown(row[len(heap)], field, version) for field in range(self.wide)]
             for value in held:
                 if is_lead(value) and value[1] not in numbers:
                     numbers[value[1]] = len(row)
                     row.append(value[1])
             heap.append(tuple([("to", numbers[value[1]]) if is_lead(value) else value for value in held]))
         return tuple(heap)
+
+    def _shown(self, number, field, version):
+        """What a field of a cell shows at the version."""
+        return self._in_force(number, field, version)[1]
 
     def line(self):
         """The tuple of the versions in their line."""

@@ -231,22 +231,36 @@ class Kept:
                 raise BadDeed(at)
             many += 1 if is_made else 0
 
+    def _is_leading_away(self, version, fields):
+        """Whether the fields, with their values behind a deed, lead away from some record."""
+        for (record, field), value in fields.items():
+            elder = self._reads[version][record].value(field, version, self._row)
+            if is_lead(elder) and elder != value:
+                return True
+        return False
+
     def _met(self, version, fields, rows):
-        """The dict from the records that a deed at the version lets the root lead to, to what they hold then."""
+        """The dict of the records to which the root leads behind a deed at the version."""
         elders = self._counts[version]
+        reads = self._reads[version]
         changed = {}
         for (record, field), value in fields.items():
             changed.setdefault(record, []).append((field, value))
-        met = {}
-        waiting = [0]
+        if self._is_leading_away(version, fields):
+            met = {}
+            waiting = [0]
+        else:
+            # What the version reads is read on: only what comes to it is looked for.
+            met = {record: True for record in reads}
+            waiting = [value[1] for value in fields.values() if is_lead(value)]
         while waiting:
             record = waiting.pop()
             if record in met:
                 continue
-            held = rows[record - elders] if record >= elders else self._reads[version][record].held(version, self._row)
+            met[record] = True
+            held = rows[record - elders] if record >= elders else reads[record].held(version, self._row)
             for field, value in changed.get(record, ()):
                 held[field] = value
-            met[record] = held
             waiting.extend([value[1] for value in held if is_lead(value)])
         return met
 
@@ -260,22 +274,24 @@ class Kept:
         self._total += 1
         self._row.put(version, fresh)
         self._counts[fresh] = elders + len(rows)
-        self._reads[fresh] = {record: self._read_by(version, fresh, record, met[record]) for record in met}
+        reads = {record: self._reads[version][record] for record in met if record < elders}
+        for holding in reads.values():
+            holding.readers[fresh] = True
         for (record, field), value in fields.items():
             if record in met:
-                self._reads[fresh][record].write(field, fresh, value, self._row)
+                reads[record].write(field, fresh, value, self._row)
+        self._reads[fresh] = reads
+        for which, row in enumerate(rows):
+            if elders + which in met:
+                self._hold((fresh, which), elders + which, row)
         return fresh
 
-    def _read_by(self, parent, fresh, record, held):
-        """A record that the new version reads: one that its parent reads, or a new one."""
-        if record in self._reads[parent]:
-            holding = self._reads[parent][record]
-            holding.readers[fresh] = True
-            return holding
-        name = (fresh, record - self._counts[parent])
-        holding = Holding(name, record, [fresh], [[(fresh, value)] for value in held])
+    def _hold(self, name, record, row):
+        """Hold a new record, which the version that made it reads."""
+        made = name[0]
+        holding = Holding(name, record, [made], [[(made, value)] for value in row])
         self._holdings[name] = holding
-        return holding
+        self._reads[made][record] = holding
 
     def drop(self, version):
         """Let the version stand no longer."""

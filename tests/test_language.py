@@ -12,7 +12,8 @@ import asifcopied
 PACKAGE = pathlib.Path(asifcopied.__file__).parent
 # The modules of the interface in its sequence, the further ones among them.
 MODULES = """errors checks heaps changes lines growth fats labels moves cells splits tracks copying games duels forests
-programs coding piles meanings folding machines queues trees holdings standings dropping ascents times differences""".split()
+programs coding piles meanings folding machines queues trees holdings standings dropping ascents times differences journal
+care runtime texts desk""".split()
 INTERFACE = """
 checks: is_heap(value, wide)
 heaps: pointed(heap, wide), reached(heap, wide), seen(heap, wide), look_alike(one, other, wide)
@@ -54,6 +55,12 @@ ascents: shallowest_between(parents, one, other), Jumps(), maker(story, wide, ve
 times: led_to(heap, wide, way), times_of(story, wide, way, value), since(story, wide, version, way)
 times: giver(story, wide, version, record, field)
 differences: unlike(story, wide, one, other), least_deed(one, other, wide), least_changes(one, other, wide)
+journal: is_content(value), Disk(), Journal(disk, leave), goes_wrong(events, leave), wrong_run(rule)
+care: care_rules(), seen_without(wide, room, most, without, story), first_misread(wide, room, most, without, story)
+care: story_without(rule)
+runtime: is_name(value), Runtime(wide, disk)
+texts: heap_text(heap, wide), read_heap(text), story_text(story, wide), read_story(text)
+desk: Desk(wide)
 """
 METHODS = {
     "fats.Fat": "deed(version, changes), heap(version), look(version), many(version), read(version, record, field), "
@@ -69,15 +76,21 @@ METHODS = {
     "machines.Machine": "step(), turn(many), is_over(), outcome(), standing(), end(), leaned()",
     "dropping.Kept": "deed(version, changes), many(version), read(version, record, field), look(version), "
                      "reaches(version), standing(), total(), drop(version), kept_rows(), count(), state()",
-    "ascents.Jumps": "grow(parent), many(), parents(), jump(version), up(version, depth), first_with(version, marks, least)"}
+    "ascents.Jumps": "grow(parent), many(), parents(), jump(version), up(version, depth), first_with(version, marks, least)",
+    "journal.Disk": "write(cell, content), read(cell), sync(), waiting(), cells(), allow(many), cut(landed)",
+    "journal.Journal": "base(), logs(), line(), head(), log(content), sync(), compact(items)",
+    "runtime.Runtime": "names(), many(name), reaches(name), read(name, record, field), look(name), standing(), total(), "
+                       "kept_rows(), deed(name, changes, fresh), run(name, program, function, given, most, fresh), "
+                       "put(name, other), take(name), acts(), sync(), compact(), told()",
+    "desk.Desk": "say(line)"}
 LET = """len range enumerate zip min max sum abs sorted reversed int str bool list tuple dict set isinstance ord repr any all
-divmod ValueError""".split()
+divmod ValueError super""".split()
 WORDS = """append clear copy count endswith extend find get index insert isalnum isalpha isdigit islower isspace isupper
 items join keys ljust lower lstrip partition pop remove replace reverse rfind rjust rpartition rsplit rstrip setdefault
 split splitlines startswith strip update upper values zfill bit_length""".split()
 BARRED = """mro elements open input law version_info with_traceback add_note register type typing enum Enum Flag Generic
 Protocol ABC namedtuple dataclass overload contextmanager eval exec compile id dir vars globals locals getattr setattr
-hasattr super map chr format hash next iter filter print round float object""".split()
+hasattr map chr format hash next iter filter print round float object""".split()
 CHANGING = "append clear extend insert pop remove reverse setdefault update sort".split()
 ITERATING = "list tuple dict sorted sum any all enumerate zip min max len reversed".split()
 PLAIN = (ast.FunctionDef, ast.ClassDef, ast.ImportFrom, ast.Assign, ast.Expr)
