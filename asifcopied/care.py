@@ -10,15 +10,19 @@ RULES = ("child", "behind", "nearest", "met", "values", "over", "turned", "strad
 
 # For each rule the fields, the room and the pointers of cells, and a story that they misread without it.
 MISREAD = {
-    "child": (1, 1, 1, ((0, (("set", 0, 0, 3),)), (0, ()))),
+    "child": (1, 1, 1, ((0, (("set", 0, 0, 1),)), (0, ()))),
     "behind": (1, 1, 1, ((0, ()), (0, (("set", 0, 0, 1),)))),
-    "nearest": (1, 1, 1, ((0, (("set", 0, 0, 2),)), (0, ()))),
-    "met": (2, 1, 2, ((0, (("set", 0, 0, ("to", 0)),)), (1, (("set", 0, 1, ("to", 0)),)))),
-    "values": (1, 1, 1, ((0, ()), (0, (("set", 0, 0, ("to", 0)),)))),
-    "over": (1, 1, 1, ((0, ()), (0, (("set", 0, 0, ("to", 0)),)))),
-    "turned": (1, 1, 1, ((0, (("set", 0, 0, ("to", 0)),)),)),
-    "straddling": (1, 1, 1, ((0, (("make", (("to", 0),)),)), (1, (("set", 0, 0, ("to", 1)),)))),
-    "backs": (1, 1, 1, ((0, (("set", 0, 0, ("to", 0)),)),))}
+    "nearest": (1, 1, 1, ((0, (("set", 0, 0, 1),)), (0, ()))),
+    "met": (1, 1, 1, ((0, (("make", (5,)), ("set", 0, 0, ("to", 1)))), (1, (("set", 1, 0, 6),)),
+                      (2, (("set", 1, 0, 7),)), (3, (("set", 0, 0, None),)), (4, (("set", 0, 0, ("to", 1)),)))),
+    "values": (1, 2, 1, ((0, (("set", 0, 0, 1),)), (1, (("set", 0, 0, 2),)), (2, (("set", 0, 0, 3),)))),
+    "over": (1, 2, 1, ((0, (("set", 0, 0, 1),)), (1, (("set", 0, 0, 2),)), (2, (("set", 0, 0, 3),)))),
+    "turned": (1, 1, 1, ((0, (("make", (5,)),)), (1, (("set", 1, 0, 6),)), (2, (("set", 0, 0, ("to", 1)),)),
+                         (3, (("set", 1, 0, 7),)))),
+    "straddling": (1, 1, 1, ((0, (("make", (5,)), ("set", 0, 0, ("to", 1)))), (1, (("set", 1, 0, 6),)),
+                             (2, (("set", 1, 0, 7),)))),
+    "backs": (2, 1, 1, ((0, (("make", (5, None)), ("set", 0, 1, ("to", 1)))), (1, (("set", 0, 0, 1),)),
+                        (2, (("set", 1, 0, 6),)), (3, (("set", 1, 0, 7),))))}
 
 
 def is_rule(value):
@@ -30,7 +34,7 @@ class CarelessCells(Cells):
     """Cells that do not mind one of the rules; None if they mind all of them."""
 
     def __init__(self, wide, room, most, without):
-        Cells.__init__(self, wide, room, most)
+        super().__init__(wide, room, most)
         if without is not None and not is_rule(without):
             raise BadRule("without is None or the name of a rule")
         self._without = without

@@ -150,7 +150,7 @@ def answer_to(desk, words):
 def answer_since(desk, words):
     """Tell since when a way leads to what it leads to."""
     ways = ways_in(words, 1, desk.wide)
-    return None if ways is None else version_text(since(desk.story, desk.wide, desk.version, ways[0]))
+    return None if ways is None else version_text(since(desk.pairs, desk.wide, desk.version, ways[0]))
 
 
 def answer_when(desk, words):
@@ -161,7 +161,7 @@ def answer_when(desk, words):
     is_told, value = value_in(words[1])
     if not is_told:
         return None
-    stretches = times_of(desk.story, desk.wide, ways[0], value)
+    stretches = times_of(desk.pairs, desk.wide, ways[0], value)
     return " ".join([str(first) + "-" + str(last) for first, last in stretches]) if stretches else "never"
 
 
@@ -170,7 +170,7 @@ def answer_unlike(desk, words):
     number = number_of(words)
     if number is None or not desk.has(number):
         return None if number is None else NONE
-    common, fields = unlike(desk.story, desk.wide, desk.version, number)
+    common, fields = unlike(desk.pairs, desk.wide, desk.version, number)
     return " ".join([str(common)] + [str(record) + "." + str(field) for record, field, _, _ in fields])
 
 
@@ -179,14 +179,14 @@ def answer_least(desk, words):
     number = number_of(words)
     if number is None or not desk.has(number):
         return None if number is None else NONE
-    heaps = [heap_by(desk.story, desk.wide, version) for version in (desk.version, number)]
+    heaps = [heap_by(desk.pairs, desk.wide, version) for version in (desk.version, number)]
     many = least_changes(heaps[0], heaps[1], desk.wide)
     return NONE if many is None else str(many)
 
 
 def answer_text(desk, words):
     """Tell all that was done."""
-    return None if words else story_text(desk.story, desk.wide)
+    return None if words else story_text(desk.pairs, desk.wide)
 
 
 ANSWERS = {"set": answer_set, "make": answer_make, "read": answer_read, "same": answer_same, "at": answer_at,
@@ -212,7 +212,7 @@ class Desk:
         self._runtime.put(name_of(0), FIRST_NAME)
         self._runtime.take(FIRST_NAME)
         self.wide = wide
-        self.story = []
+        self.pairs = []
         self.version = 0
 
     def say(self, line):
@@ -226,11 +226,11 @@ class Desk:
 
     def has(self, version):
         """Whether a number from 0 on is that of a version."""
-        return version <= len(self.story)
+        return version <= len(self.pairs)
 
     def parents(self):
         """The list of the parents of all versions."""
-        return [None] + [parent for parent, _ in self.story]
+        return [None] + [parent for parent, _ in self.pairs]
 
     def many(self):
         """How many records there are at the desk's version."""
@@ -254,6 +254,6 @@ class Desk:
 
     def deed(self, changes):
         """Do a deed, and be at the new version: the answer."""
-        self._runtime.deed(name_of(self.version), changes, name_of(len(self.story) + 1))
-        self.story.append((self.version, changes))
-        return self.go(len(self.story))
+        self._runtime.deed(name_of(self.version), changes, name_of(len(self.pairs) + 1))
+        self.pairs.append((self.version, changes))
+        return self.go(len(self.pairs))

@@ -3,8 +3,8 @@
 from asifcopied.checks import is_between, is_from, is_list, is_pair
 from asifcopied.copying import MOST_EXTRA, check_course, check_extra, is_ascending
 from asifcopied.errors import BadCopied, BadExtra, BadMost, BadMoves, BadPrice, BadRecord, BadRounds, BadShape, BadUsed
-from asifcopied.games import Game, behind, best_copied, check_size, count_used, holding_pots, least_copies
-from asifcopied.games import pressing_dues, pressing_pots, price_of
+from asifcopied.games import Game, all_used, behind, best_copied, check_size, count_used, holding_pots, is_held
+from asifcopied.games import is_pressed, least_copies, pressing_dues, pressing_pots, price_of
 from asifcopied.tracks import Track
 
 MOST_POINTERS = 5
@@ -162,8 +162,7 @@ def played(shape, extra, moves):
 
 def fewest(shape, extra, moves):
     """How many copies a keeper who knows all moves ahead makes at least."""
-    rows, _ = least_copies(played(shape, extra, moves), moves)
-    return rows[0][0]
+    return least_copies(played(shape, extra, moves), moves)[0][0]
 
 
 def best_plan(shape, extra, moves):
@@ -190,26 +189,24 @@ def compared(price, turns):
 def holding(shape, extra, price):
     """The holding paper with the least pots, None if there is none."""
     check_duel(shape, extra, price)
-    game = Game(shape, extra)
-    turns = game.turns()
+    turns = Game(shape, extra).turns()
     if compared(price, turns) < 0:
         return None
     pots = holding_pots(turns, price[0], price[1])
-    return {used: pots[at] for at, used in enumerate(game.states)}
+    return {used: pots[at] for at, used in enumerate(all_used(len(shape), extra))}
 
 
 def pressing(shape, extra, price):
     """The pressing paper with the least pots, None if there is none."""
     check_duel(shape, extra, price)
-    game = Game(shape, extra)
-    turns = game.turns()
+    turns = Game(shape, extra).turns()
     if compared(price, turns) > 0:
         return None
     num, den = price
     pots = pressing_pots(turns, num, den)
     paper = {}
-    for at, used in enumerate(game.states):
-        dues = pressing_dues(pots, turns[at], num, den)
+    for at, used in enumerate(all_used(len(shape), extra)):
+        dues = pressing_dues(pots, turns, at, num, den)
         paper[used] = (pots[at], dues.index(min(dues)))
     return paper
 
@@ -218,17 +215,10 @@ def is_keyed(value, shape, extra):
     """Whether any value is a dict whose keys are just all used tuples."""
     if not isinstance(value, dict) or len(value) != count_used(len(shape), extra):
         return False
-    return all([is_used(key, shape, extra) for key in value])
-
-
-def is_held(game, price, pots, used):
-    """Whether, whatever record is moved, some choice of the keeper is paid by the price and the pots."""
-    num, den = price
-    for record in range(len(game.shape)):
-        choices = game.choices(used, record)
-        if not any([den * len(copied) + pots[later] <= num + pots[used] for copied, later in choices]):
-            return False
-    return True
+    if not all([used in value for used in all_used(len(shape), extra)]):
+        return False
+    # Each key is equal to a used tuple now; but True is equal to 1.
+    return not any([isinstance(slots, bool) for used in value for slots in used])
 
 
 def is_holding(shape, extra, price, value):
@@ -237,20 +227,13 @@ def is_holding(shape, extra, price, value):
     if not is_keyed(value, shape, extra) or not all([is_from(pot, 0) for pot in value.values()]):
         return False
     game = Game(shape, extra)
-    return all([is_held(game, price, value, used) for used in game.states])
+    pots = {state: value[used] for state, used in zip(game.states, all_used(len(shape), extra))}
+    return is_held(game, price[0], price[1], pots)
 
 
 def is_order(value, shape):
     """Whether any value is a pair of a pot and of the record that is to be moved."""
     return is_pair(value) and is_from(value[0], 0) and is_between(value[1], 0, len(shape) - 1)
-
-
-def is_pressed(game, price, paper, used):
-    """Whether all choices of the keeper pay the price, but for what is in the pots."""
-    num, den = price
-    pot, record = paper[used]
-    choices = game.choices(used, record)
-    return all([pot + den * len(copied) >= num + paper[later][0] for copied, later in choices])
 
 
 def is_pressing(shape, extra, price, value):
@@ -259,7 +242,11 @@ def is_pressing(shape, extra, price, value):
     if not is_keyed(value, shape, extra) or not all([is_order(order, shape) for order in value.values()]):
         return False
     game = Game(shape, extra)
-    return all([is_pressed(game, price, value, used) for used in game.states])
+    pots = {}
+    records = {}
+    for state, used in zip(game.states, all_used(len(shape), extra)):
+        pots[state], records[state] = value[used]
+    return is_pressed(game, price[0], price[1], pots, records)
 
 
 def lowest(num, den):

@@ -50,7 +50,7 @@ class Runtime:
         self._versions = {}
         self._counts = {}
         for name, version in names:
-            self._lay(name, version)
+            self._place(name, version)
 
     def _state(self):
         """All that the runtime has, as a content."""
@@ -64,7 +64,7 @@ class Runtime:
             raise Unknown(name)
         return self._versions[name]
 
-    def _lay(self, name, version):
+    def _place(self, name, version):
         """Put a name on a version; if it was known, it leaves the one on which it was."""
         self._counts[version] = self._counts.get(version, 0) + 1
         if name in self._versions:
@@ -86,9 +86,9 @@ class Runtime:
         if act[0] == "deed":
             _, name, changes, fresh = act
             made = self._kept.deed(self._versions[name], changes)
-            self._lay(fresh, made)
+            self._place(fresh, made)
         elif act[0] == "put":
-            self._lay(act[1], self._versions[act[2]])
+            self._place(act[1], self._versions[act[2]])
         else:
             self._leave(act[1])
         return made

@@ -244,6 +244,45 @@ class TestFewest(unittest.TestCase):
             self.assertEqual(sum(map(len, plan)), told)
             self.assertLessEqual(told, sum(map(len, least_plan(story, 6, extra))))
 
+    def test_five_moves_on_great_shapes(self):
+        """Shapes of 5 and 6 records, and as many used tuples as may be, against the plain search."""
+        chain = tuple((record + 1,) for record in range(4)) + ((),)
+        drawn = [(chain, 2, [0, 1, 2, 3, 4]), (chain, 1, [0, 0, 0, 0, 0]), (ring_shape(5), 1, [0, 1, 2, 3, 0])]
+        for seed in range(40):
+            rng = random.Random(seed)
+            many = 5 + seed % 2
+            shape = drawn_shape(rng, many, rng.choice([1, 2, 3, 5]))
+            told = rng.sample(range(many), 2)
+            drawn.append((shape, seed % 3 % 2, [rng.choice(told + list(range(many))) for _ in range(5)]))
+        for seed in range(6):
+            rng = random.Random(seed)
+            drawn.append((drawn_shape(rng, 3, 3), 9, [rng.randrange(3)] * 4 + [0]))
+            drawn.append((drawn_shape(rng, 2, 5), 30, [rng.randrange(2) for _ in range(5)]))
+        told = {}
+        for shape, extra, moves in drawn:
+            many = fewest(shape, extra, moves)
+            self.assertEqual(many, self.plain_fewest(shape, extra, moves), (shape, extra, moves))
+            plan = best_plan(shape, extra, moves)
+            self.assertTrue(is_good(shape_story(shape, moves), 6, extra, plan))
+            self.assertEqual(sum(map(len, plan)), many)
+            told[many] = told.get(many, 0) + 1
+        self.assertGreater(len(told), 5)
+
+    def test_many_moves(self):
+        """Where it pays to copy more than must be: long rows of moves, against the plain search."""
+        better = 0
+        for seed in range(30):
+            rng = random.Random(seed)
+            shape, extra = drawn_shape(rng, 2 + seed % 4, 2), 1
+            moves = [rng.randrange(len(shape)) for _ in range(30)]
+            told = fewest(shape, extra, moves)
+            self.assertEqual(told, self.plain_fewest(shape, extra, moves))
+            story, plan = shape_story(shape, moves), best_plan(shape, extra, moves)
+            self.assertTrue(is_good(story, 6, extra, plan))
+            self.assertEqual(sum(map(len, plan)), told)
+            better += told < sum(map(len, least_plan(story, 6, extra)))
+        self.assertGreater(better, 2)
+
     def test_by_hand(self):
         self.assertEqual(fewest(shape=PAIR, extra=1, moves=[0, 1, 1, 0, 1]), 2)
         self.assertEqual(sum(map(len, best_plan(shape=PAIR, extra=1, moves=(0, 1, 1, 0, 1)))), 2)
@@ -269,9 +308,20 @@ class TestFewest(unittest.TestCase):
                     call()
         for shape, extra in [(six, 0), (six, 2), (((),) * 3, 9), (((),) * 2, 30), (((),), 60)]:
             self.assertEqual(fewest(shape, extra, [0] * (extra + 1)), 1)
-        for shape, extra in [(seven, 0), (((),) * 5, 2), (((),) * 4, 3), (((),) * 3, 4), (((),) * 2, 10)]:
+        for shape, extra in [(seven, 0), (((),) * 5, 2), (((),) * 4, 3), (((),) * 3, 4), (((),) * 2, 10), (six, 2)]:
             with self.assertRaises(TooMany):
                 duel_price(shape, extra)
+        for shape, extra in [(six, 1), (((),) * 2, 9), (((),) * 3, 3), (((),) * 4, 2), (((),) * 5, 1), (((),), 60)]:
+            self.assertEqual(duel_price(shape, extra), (1, extra + 1))
+        # 1,000 used tuples are let, and 1,024 are not; papers of neither kind are looked at then.
+        self.assertIs(is_holding(((),) * 3, 9, (1, 10), {used: sum(used) for used in all_used(((),) * 3, 9)}), True)
+        for extra, records in [(31, 2), (3, 5)]:
+            paper = {used: sum(used) for used in all_used(((),) * records, extra)}
+            self.assertEqual(len(paper), 1024)
+            with self.assertRaises(TooMany):
+                is_holding(((),) * records, extra, (1, 1), paper)
+            with self.assertRaises(TooMany):
+                is_pressing(((),) * records, extra, (0, 1), {used: (0, 0) for used in paper})
 
 
 class TestPapers(unittest.TestCase):
@@ -320,6 +370,42 @@ class TestPapers(unittest.TestCase):
                 for record in range(len(shape)):
                     paper = {**presses, used: (presses[used][0], record)}
                     self.assertIs(is_pressing(shape, extra, price, paper), plain_presses(shape, extra, price, paper))
+        self.assertEqual(len(told), 4)
+
+    def test_papers_of_great_shapes(self):
+        """Shapes of 5 and 6 records: the price, the least pots, and papers bent in one place, against the plain judges."""
+        told = {}
+        for seed in range(8):
+            rng = random.Random(seed)
+            shape, extra = drawn_shape(rng, 5 + seed % 2, rng.choice([1, 2, 3])), 1
+            num, den = duel_price(shape, extra)
+            self.check(shape, extra, (num, den), 0)
+            holds, presses = holding(shape, extra, (num, den)), pressing(shape, extra, (num, den))
+            for _ in range(8):
+                used, more = rng.choice(list(holds)), rng.choice([-1, 1, 2])
+                if holds[used] + more >= 0:
+                    paper = {**holds, used: holds[used] + more}
+                    plain = plain_holds(shape, extra, (num, den), paper)
+                    self.assertIs(is_holding(shape, extra, (num, den), paper), plain)
+                    told["holding", plain] = True
+                paper = {**presses, used: (max(0, presses[used][0] + more), rng.randrange(len(shape)))}
+                plain = plain_presses(shape, extra, (num, den), paper)
+                self.assertIs(is_pressing(shape, extra, (num, den), paper), plain)
+                told["pressing", plain] = True
+        self.assertEqual(len(told), 4)
+
+    def test_any_papers(self):
+        """Pots that neither rise nor fall with the slots: a judge may not lean on what the least pots are like."""
+        told = {}
+        for seed in range(300):
+            rng = random.Random(seed)
+            shape, extra = drawn_shape(rng, 1 + seed % 4, 3), rng.choice([0, 1, 1])
+            price = (rng.randrange(1, 4), rng.randrange(1, 4))
+            holds = {used: rng.randrange(8) for used in all_used(shape, extra)}
+            presses = {used: (rng.randrange(3), rng.randrange(len(shape))) for used in holds}
+            plain = plain_holds(shape, extra, price, holds), plain_presses(shape, extra, price, presses)
+            self.assertEqual((is_holding(shape, extra, price, holds), is_pressing(shape, extra, price, presses)), plain)
+            told["holding", plain[0]] = told["pressing", plain[1]] = True
         self.assertEqual(len(told), 4)
 
     def test_none_by_their_form(self):

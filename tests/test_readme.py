@@ -25,6 +25,17 @@ class TestReadme(unittest.TestCase):
         exec(pieces[2], told)
         self.assertEqual(told["copier"].heap(1), ((("to", 1), None), (1, None)))
         self.assertEqual(told["duel_price"](told["ring_shape"](2), 2), (4, 5))
+        exec(pieces[3], told)
+        self.assertEqual(told["kept"].kept_rows(), (((0, 0), 0, ((1, 5),)),))
+        self.assertEqual((told["again"].names(), told["again"].total()), ({"main": 2, "then": 1}, 3))
+        self.assertEqual(told["times_of"](fat.story(), 2, (0, 0), 1), [(1, 1)])
+        self.assertEqual((told["desk"].say("at"), told["desk"].say("when 0.0 1")), ("version 2", "1-1"))
+
+    def test_all_modules_are_told_of(self):
+        text = README.read_text()
+        for path in (README.parent / "asifcopied").glob("*.py"):
+            if path.stem != "__init__":
+                self.assertIn("| `" + path.stem + "` |", text)
 
 
 if __name__ == "__main__":
