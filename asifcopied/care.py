@@ -1,7 +1,7 @@
 """The rules of care that cells follow: without any one of them some story reads a wrong past."""
 
 from asifcopied.cells import Cells
-from asifcopied.changes import check_story, heaps_of
+from asifcopied.changes import heaps_of
 from asifcopied.errors import BadRule
 from asifcopied.heaps import is_lead, seen_from_root
 from asifcopied.lines import climbs_to
@@ -112,7 +112,6 @@ class CarelessCells(Cells):
 def shown_of(wide, room, most, without, story):
     """The pair of the plain heaps of all versions, and of what is shown of them when one rule is not minded."""
     cells = CarelessCells(wide, room, most, without)
-    check_story(story, wide)
     heaps = heaps_of(story, wide)
     for at, (parent, _) in enumerate(story):
         cells.grow(parent, heaps[parent], heaps[at + 1])

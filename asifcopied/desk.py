@@ -168,8 +168,10 @@ def answer_when(desk, words):
 def answer_unlike(desk, words):
     """Tell what this version and another one have unlike."""
     number = number_of(words)
-    if number is None or not desk.has(number):
-        return None if number is None else NONE
+    if number is None:
+        return None
+    if not desk.has(number):
+        return NONE
     common, fields = unlike(desk.pairs, desk.wide, desk.version, number)
     return " ".join([str(common)] + [str(record) + "." + str(field) for record, field, _, _ in fields])
 
@@ -177,10 +179,12 @@ def answer_unlike(desk, words):
 def answer_least(desk, words):
     """Tell how many changes lead from this heap to that of another version."""
     number = number_of(words)
-    if number is None or not desk.has(number):
-        return None if number is None else NONE
-    heaps = [heap_by(desk.pairs, desk.wide, version) for version in (desk.version, number)]
-    many = least_changes(heaps[0], heaps[1], desk.wide)
+    if number is None:
+        return None
+    if not desk.has(number):
+        return NONE
+    here = heap_by(desk.pairs, desk.wide, desk.version)
+    many = least_changes(here, heap_by(desk.pairs, desk.wide, number), desk.wide)
     return NONE if many is None else str(many)
 
 

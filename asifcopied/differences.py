@@ -1,9 +1,9 @@
 """What two versions have unlike, and the least deed that makes one heap out of another."""
 
-from asifcopied.changes import check_story, heap_by, parents_of
+from asifcopied.changes import heap_by, parents_of
 from asifcopied.checks import check_heap
 from asifcopied.heaps import is_lead
-from asifcopied.lines import check_version, meet
+from asifcopied.lines import meet
 
 
 def is_shared(value, common):
@@ -13,11 +13,7 @@ def is_shared(value, common):
 
 def unlike(story, wide, one, other):
     """How many records two versions have in common, and the ascending list of the fields of these that are unlike."""
-    check_story(story, wide)
-    parents = parents_of(story, wide)
-    check_version(parents, one)
-    check_version(parents, other)
-    common = len(heap_by(story, wide, meet(parents, one, other)))
+    common = len(heap_by(story, wide, meet(parents_of(story, wide), one, other)))
     told = []
     for record, (row, there) in enumerate(zip(heap_by(story, wide, one)[:common], heap_by(story, wide, other))):
         for field in range(wide):

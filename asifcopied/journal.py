@@ -146,8 +146,7 @@ class Journal:
     def _last_row(self):
         """The last row whose cell holds anything, -1 if there is none."""
         cells = list(self._disk.cells()) + list(self._disk.waiting())
-        rows = [(cell - 1 - self._turn % 2) // 2 for cell in cells if cell > 0 and cell % 2 == 1 - self._turn % 2]
-        return max(rows, default=-1)
+        return max([(cell - 1) // 2 for cell in cells if cell % 2 != self._turn % 2], default=-1)
 
     def _take(self, row):
         """Whether the row is taken: its life counts then, and its content, if it has one, is the next log."""
@@ -191,8 +190,7 @@ class Journal:
         return self._turn, self._many, self._life
 
     def log(self, content):
-        """Put a content at the end of the logs."""
-        check_content(content)
+        """Put a content at the end of the logs; the disk refuses what is none."""
         self._write((self._turn, self._life, content))
         self._logs.append(content)
 
@@ -289,7 +287,6 @@ def goes_wrong(events, leave):
     """Whether some cut among the events goes wrong if one rule is left out."""
     if not is_list(events):
         raise BadEvents(None)
-    check_leave(leave)
     trial = Trial(leave)
     for at, event in enumerate(events):
         if not trial.is_event(event):

@@ -133,7 +133,7 @@ class TestLeastDeed(unittest.TestCase):
                     call(None, None, bad)
             for bad in [None, (), [], ((None,),), ((None, ("to", 1)),), [(None, None)], ((None, True),), 5]:
                 with self.assertRaises(BadHeap):
-                    call(bad, None, 2)
+                    call(bad, good, 2)
                 with self.assertRaises(BadHeap):
                     call(good, bad, 2)
 

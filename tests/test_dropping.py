@@ -150,7 +150,7 @@ class TestRows(unittest.TestCase):
     def test_rows_of_any_form(self):
         good = least_rows(STORY, 1, (0, 1, 2, 3))
         first, second = good
-        bad = [list(good), (second, first), (first, first), good + (second,), (list(first), second), (first[:2], second),
+        bad = [list(good), (second, first), (first, first), (((0, 0), 0, ((0, 1),)), ((0, 0), 0, ((1, 1),)), second), good + (second,), (list(first), second), (first[:2], second),
                (first + (0,), second), (((0, 0), 1, first[2]), second), (((0, 0), -1, first[2]), second),
                (((0, 0), False, first[2]), second), (((0, 0), None, first[2]), second), (((0, 1), 0, first[2]), second),
                (((2, 0), 0, first[2]),), (((4, 0), 0, first[2]),), (([0, 0], 0, first[2]), second),

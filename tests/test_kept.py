@@ -219,7 +219,7 @@ class TestKept(Check):
                    ([("make", (("to", 4), None))], 0), ([("set", 0, 1, 5), ("set", 2, 0, 1)], 1), (None, None), ({}, None), ("ab", None),
                    ([("make", (1, 2)), None], 1), ([("set", 0, 2, 1)], 0), ([("set", 0, 0, True)], 0), (5, None),
                    ([("set", 1, 0, ("to", 0)), ("make", (None, None)), ("set", 3, 0, ("to", 3)), ("set", 3, 0, ("to", 2))], 3),
-                   ([("make", (1,))], 0), ([["set", 0, 0, 1]], 0), ([("set", 2, 0, True)], 0), ([("make", (("to", 1), ("to", 2)))], 0)]
+                   ([("make", (None, None)), ("set", 4, 0, 1)], 1), ([("set", 0, 0, 1), ("set", 3, 0, 1)], 1), ([("make", (1,))], 0), ([["set", 0, 0, 1]], 0), ([("set", 2, 0, True)], 0), ([("make", (("to", 1), ("to", 2)))], 0)]
         for changes, at in refused:
             with self.assertRaises(BadDeed) as caught:
                 kept.deed(1, changes)

@@ -239,7 +239,7 @@ class TestErrors(unittest.TestCase):
             for call in [lambda: runtime.many(bad), lambda: runtime.reaches(bad), lambda: runtime.read(bad, None, None),
                          lambda: runtime.look(bad), lambda: runtime.deed(bad, None, None), lambda: runtime.take(bad),
                          lambda: runtime.run(bad, None, None, None, None, None), lambda: runtime.put(bad, None),
-                         lambda: runtime.put("c", bad)]:
+                         lambda: runtime.put("c", bad), lambda: runtime.put(bad, "b"), lambda: runtime.put(bad, "unknown")]:
                 self.refused(BadName, call)
         for call in [lambda: runtime.many("c"), lambda: runtime.reaches("c"), lambda: runtime.read("c", None, None),
                      lambda: runtime.look("c"), lambda: runtime.deed("c", None, None), lambda: runtime.take("c"),
